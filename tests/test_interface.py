@@ -1,0 +1,38 @@
+"""The interface of DOC.md, as far as it has landed: names, parameters, and the files in which they are defined."""
+
+import inspect
+import unittest
+from importlib import import_module
+
+INTERFACE = {
+    "terms": [
+        "need_many(value)", "need_name(value)", "need_row(many, row)", "need_numbers(numbers)", "need_term(value)",
+        "make_term(const, pairs=())", "names_of(term)", "value_at(term, numbers)", "add_terms(one, other)",
+        "times_term(term, factor)", "put_into_term(term, name, other)"],
+    "formulas": [
+        "need_formula(value)", "need_plain(formula)", "need_wide(many, formula)", "is_plain(formula)",
+        "measures(formula)", "parts_of(formula)", "part_at(formula, path)", "put_at(formula, path, part)",
+        "free_names(formula)", "holds_at(formula, numbers)", "put_in(formula, name, term)",
+        "trade_names(formula, one, other)", "same_but_bound(one, other)"],
+    "forms": [
+        "is_inward(formula)", "inward(formula)", "negated(formula)", "alternatives_of(formula)",
+        "from_alternatives(rows)", "simplified(formula)"],
+    "takeout": [
+        "period_of(formula, name)", "work_of(formula, name)", "candidates_of(formula, name)",
+        "some_out(formula, name)", "all_out(formula, name)", "often_out(formula, name)", "nearly_out(formula, name)",
+        "flat_out(formula)"],
+}
+
+
+class Interface(unittest.TestCase):
+    def test_each_name_in_its_file_with_its_parameters(self):
+        for module, lines in INTERFACE.items():
+            found = import_module("wholesay." + module)
+            for line in lines:
+                call = getattr(found, line.split("(")[0])
+                self.assertEqual(call.__name__ + str(inspect.signature(call)), line)
+                self.assertEqual(call.__module__, "wholesay." + module)
+
+
+if __name__ == "__main__":
+    unittest.main()
