@@ -5,6 +5,36 @@ from math import gcd
 
 STRANGE = (None, True, False, "0", b"0", 1.0, [], {}, (), (1,), (0, 0, 0, 0, 0, 0), object(), -1, 10 ** 70, "some")
 
+NUMBER = 10 ** 60
+BILLION = 10 ** 9
+ALWAYS = ("and", ())
+NEVER = ("or", ())
+
+
+def ge(const, *pairs):
+    return ("ge", (const, pairs))
+
+
+def eq(const, *pairs):
+    return ("eq", (const, pairs))
+
+
+def mod(modulus, const, *pairs):
+    return ("mod", modulus, (const, pairs))
+
+
+def nots(many, formula):
+    for _ in range(many):
+        formula = ("not", formula)
+    return formula
+
+
+def somes(names, formula):
+    """The names from the inside out."""
+    for name in names:
+        formula = ("some", name, formula)
+    return formula
+
 
 def same_value(one, other):
     """Equal, and True is not 1."""

@@ -3,36 +3,16 @@
 import unittest
 from itertools import product
 
-from tests.helpers import STRANGE, by_names, make_rand, rand_atom, rand_formula, refused, same_value, tried
+from tests.helpers import ALWAYS, BILLION, NEVER, STRANGE, by_names, eq, ge, make_rand, mod, nots, rand_atom
+from tests.helpers import rand_formula, refused, same_value, tried
 from wholesay.errors import BadFormula, BadParameter, NotPlain, TooGreat
 from wholesay.formulas import free_names, measures, need_formula
 from wholesay.forms import alternatives_of, from_alternatives, inward, is_inward, negated, simplified
 
-BILLION = 10 ** 9
-ALWAYS = ("and", ())
-NEVER = ("or", ())
-
-
-def ge(const, *pairs):
-    return ("ge", (const, pairs))
-
-
-def eq(const, *pairs):
-    return ("eq", (const, pairs))
-
-
-def mod(modulus, const, *pairs):
-    return ("mod", modulus, (const, pairs))
 
 
 def no(formula):
     return ("not", formula)
-
-
-def nots(many, formula):
-    for _ in range(many):
-        formula = no(formula)
-    return formula
 
 
 X = ge(0, (0, 1))

@@ -2,32 +2,15 @@
 
 import unittest
 
-from tests.helpers import STRANGE, by_names, make_rand, rand_formula, rand_term, refused, refuses_strange, same_value
-from tests.helpers import term_value, tried
+from tests.helpers import ALWAYS, BILLION, NUMBER, STRANGE, by_names, eq, ge, make_rand, nots, rand_formula
+from tests.helpers import rand_term, refused, refuses_strange, term_value, tried
 from wholesay.errors import BadFormula, BadIndex, BadName, BadRow, BadTerm, BadWidth, NotPlain, TooGreat
 from wholesay.formulas import free_names, holds_at, is_plain, measures, need_formula, need_plain, need_wide
 from wholesay.formulas import part_at, parts_of, put_at, put_in, same_but_bound, trade_names
 from wholesay.terms import put_into_term
 
-BILLION = 10 ** 9
-NUMBER = 10 ** 60
-ALWAYS = ("and", ())
 X = ("ge", (0, ((0, 1),)))
 Y = ("eq", (0, ((1, 1),)))
-
-
-def ge(const, *pairs):
-    return ("ge", (const, pairs))
-
-
-def eq(const, *pairs):
-    return ("eq", (const, pairs))
-
-
-def nots(many, formula):
-    for _ in range(many):
-        formula = ("not", formula)
-    return formula
 
 
 class Checks(unittest.TestCase):

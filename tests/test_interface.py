@@ -21,6 +21,24 @@ INTERFACE = {
         "period_of(formula, name)", "work_of(formula, name)", "candidates_of(formula, name)",
         "some_out(formula, name)", "all_out(formula, name)", "often_out(formula, name)", "nearly_out(formula, name)",
         "flat_out(formula)"],
+    "truth": [
+        "looks(many, formula, place, row)", "least_number(many, formula, place, row)",
+        "numbers_at(many, formula, place, row)", "truth_at(many, formula, row)", "is_true(formula)",
+        "reply(many, formula, row, named)"],
+    "machines": [
+        "need_machine(value)", "is_machine(value)", "columns_of(many, row)", "row_of(many, columns)",
+        "takes(machine, row)", "run_of(machine, row)", "no_rows(many)", "all_rows(many)", "just(many, row)",
+        "least_machine(machine)", "turned(machine)", "both(first, second)", "either(first, second)",
+        "less(first, second)"],
+    "places": [
+        "placed(many, machine, places)", "with_place(machine, place)", "without(machine, place)",
+        "number_at(machine, place, row)"],
+    "asking": [
+        "is_none(machine)", "first_row(machine)", "is_within(first, second)", "alike(first, second)",
+        "first_apart(first, second)", "none_paper(machine)", "is_none_paper(machine, paper)",
+        "within_paper(first, second)", "is_within_paper(first, second, paper)", "alike_paper(first, second)",
+        "is_alike_paper(first, second, paper)"],
+    "reading": ["machine_of(many, formula)"],
 }
 
 

@@ -124,6 +124,8 @@ class Language(unittest.TestCase):
                     self.assertNotIn(name, BARRED, path)
 
     def test_what_is_used(self):
+        own = {item.name for _, tree in trees() for node in tree.body if isinstance(node, ast.ClassDef)
+               for item in node.body if isinstance(item, ast.FunctionDef)}
         for path, tree in trees():
             known = defined_in(tree) | {alias.name for node in tree.body if isinstance(node, ast.ImportFrom)
                                         for alias in node.names}
@@ -132,7 +134,7 @@ class Language(unittest.TestCase):
                 if isinstance(node, ast.Name) and node.id in dir(builtins) and node.id not in known:
                     self.assertIn(node.id, BUILTINS, path)
                 if isinstance(node, ast.Call) and isinstance(node.func, ast.Attribute):
-                    self.assertIn(node.func.attr, METHODS, path)
+                    self.assertIn(node.func.attr, METHODS | own, path)
                 if isinstance(node, ast.Constant):
                     self.assertNotIsInstance(node.value, (float, complex, bytes), path)
                 if isinstance(node, ast.Constant) and isinstance(node.value, str):

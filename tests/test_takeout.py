@@ -2,35 +2,14 @@
 
 import unittest
 
-from tests.helpers import STRANGE, by_names, lcm_of, make_rand, quantified, rand_formula, refused, refuses_strange
-from tests.helpers import atoms_of, term_value, tried
+from tests.helpers import ALWAYS, BILLION, NUMBER, STRANGE, atoms_of, by_names, eq, ge, lcm_of, make_rand, mod, nots
+from tests.helpers import quantified, rand_formula, refused, refuses_strange, term_value, tried
 from wholesay.errors import BadFormula, BadName, NotPlain, TooGreat
 from wholesay.formulas import free_names, holds_at, measures, need_plain
 from wholesay.takeout import all_out, candidates_of, flat_out, nearly_out, often_out, period_of, some_out, work_of
 
-BILLION = 10 ** 9
-NUMBER = 10 ** 60
-ALWAYS = ("and", ())
 OUTS = (some_out, all_out, often_out, nearly_out)
 EXAMPLE = ("and", (("eq", (0, ((0, 1), (1, -2)))), ("ge", (-3, ((1, 1),)))))
-
-
-def ge(const, *pairs):
-    return ("ge", (const, pairs))
-
-
-def eq(const, *pairs):
-    return ("eq", (const, pairs))
-
-
-def mod(modulus, const, *pairs):
-    return ("mod", modulus, (const, pairs))
-
-
-def nots(many, formula):
-    for _ in range(many):
-        formula = ("not", formula)
-    return formula
 
 
 def standing_for(candidates, numbers):

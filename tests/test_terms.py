@@ -2,13 +2,11 @@
 
 import unittest
 
-from tests.helpers import make_rand, rand_term, refused, refuses_strange, same_value, term_value
+from tests.helpers import BILLION, NUMBER, make_rand, rand_term, refused, refuses_strange, same_value, term_value
 from wholesay.errors import BadName, BadParameter, BadRow, BadTerm, BadWidth, TooGreat
 from wholesay.terms import add_terms, make_term, names_of, need_many, need_name, need_numbers, need_row, need_term
 from wholesay.terms import put_into_term, times_term, value_at
 
-BILLION = 10 ** 9
-NUMBER = 10 ** 60
 
 
 class Checks(unittest.TestCase):
