@@ -159,6 +159,8 @@ class PutIn(unittest.TestCase):
         # A name that binds nothing is renamed, too; where the name is not free, nothing is.
         self.assertEqual(put_in(("some", 1, X), 0, (0, ((1, 1),))), ("some", 2, ge(0, (1, 1))))
         self.assertEqual(put_in(("some", 1, Y), 0, (0, ((1, 1),))), ("some", 1, Y))
+        # The least name that is left may be 0.
+        self.assertEqual(put_in(("all", 1, ge(0, (1, 1), (2, 5))), 2, (3, ((1, 1),))), ("all", 0, ge(15, (0, 1), (1, 5))))
         self.assertEqual(put_in(("all", 1, ge(0, (0, 1), (1, 1))), 1, (7, ())), ("all", 1, ge(0, (0, 1), (1, 1))))
 
     def test_the_name_itself_in_the_term(self):
@@ -243,6 +245,8 @@ class Names(unittest.TestCase):
               (("some", 1, X), ("all", 1, X)), (X, Y), (("and", (X,)), ("and", (X, X))), (("and", (X,)), ("or", (X,))),
               (("some", 1, ("some", 2, ge(0, (1, 1), (2, 2)))), ("some", 1, ("some", 2, ge(0, (1, 2), (2, 1))))),
               (("some", 1, ("some", 1, Y)), ("some", 1, ("some", 2, Y))), (eq(0, (1, 1)), eq(0, (2, 1))),
+              (("some", 2, eq(0, (2, 1))), ("some", 2, eq(0, (1, 1)))),
+              (("some", 1, ("some", 3, eq(0, (3, 1)))), ("some", 1, ("some", 3, eq(0, (2, 1))))),
               (("mod", 2, (0, ())), ("mod", 3, (0, ()))), (ge(0), ge(1)), (X, ("not", X)), (ge(0), eq(0)),
               (("some", 1, ("some", 2, ("some", 1, ("some", 2, ge(0, (1, 1), (2, 2)))))),
                ("some", 1, ("some", 2, ("some", 1, ("some", 2, ge(0, (1, 2), (2, 1)))))))]

@@ -105,6 +105,10 @@ class Limits(unittest.TestCase):
         # D counts: 2 * G * G * (D + 2).
         candidates_of(("and", (ge(11180, (0, 1)), mod(2, 0, (0, 1)))), 0)
         refused(self, (TooGreat, BILLION), candidates_of, ("and", (ge(11181, (0, 1)), mod(2, 0, (0, 1)))), 0)
+        # 2 * 5000 * 5000 * 20 is just kept.
+        for call in OUTS + (candidates_of,):
+            call(("and", (mod(18, 0, (0, 1)), eq(5000, (0, 1)))), 0)
+            refused(self, (TooGreat, BILLION), call, ("and", (mod(18, 0, (0, 1)), eq(5001, (0, 1)))), 0)
         # The numbers of mods count, too, and come ahead of the moduli.
         refused(self, (TooGreat, BILLION), candidates_of, ("or", (mod(500000, 500001, (0, 500000)),)), 0)
 

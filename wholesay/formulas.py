@@ -196,26 +196,26 @@ def told_apart(formula, levels):
     return formula[:-1] + (const, sorted([(levels.get(name, (0, name)), factor) for name, factor in pairs]))
 
 
-def alike_under(one, other, levels, others):
-    """As same_but_bound, below somes and alls; the dicts tell which one binds a name, None how many there are."""
+def alike_under(one, other, level, levels, others):
+    """As same_but_bound, below `level` somes and alls; the dicts tell which of these binds a name."""
     kind = one[0]
     if kind != other[0]:
         return False
     if kind in ATOMS:
         return told_apart(one, levels) == told_apart(other, others)
     if kind in BINDERS:
-        level = levels[None] + 1
-        levels = {**levels, one[1]: (1, level), None: level}
-        others = {**others, other[1]: (1, level), None: level}
+        level = level + 1
+        levels = {**levels, one[1]: (1, level)}
+        others = {**others, other[1]: (1, level)}
     first = inner(one)
     second = inner(other)
     if len(first) != len(second):
         return False
-    return all([alike_under(first[at][1], second[at][1], levels, others) for at in range(len(first))])
+    return all([alike_under(first[at][1], second[at][1], level, levels, others) for at in range(len(first))])
 
 
 def same_but_bound(one, other):
     """Whether two formulas are alike but for their bound names."""
     need_formula(one)
     need_formula(other)
-    return alike_under(one, other, {None: 0}, {None: 0})
+    return alike_under(one, other, 0, {}, {})
