@@ -39,6 +39,18 @@ INTERFACE = {
         "within_paper(first, second)", "is_within_paper(first, second, paper)", "alike_paper(first, second)",
         "is_alike_paper(first, second, paper)"],
     "reading": ["machine_of(many, formula)"],
+    "lines": [
+        "need_set(value)", "made_set(many, lines)", "turns(value, row)", "bars(value, row)",
+        "is_bar(value, place, row, bar)"],
+    "linework": [
+        "has(value, row)", "ordered(value)", "is_ordered(value)", "union(one, other)", "sum_of(one, other)",
+        "star(value)", "times(value, factor)", "rearranged(value, places)", "widened(value)", "common(one, other)",
+        "rows_to(value, most)"],
+    "equations": [
+        "need_equations(value)", "homogeneous(equations)", "solves(equations, numbers)", "split(equations, numbers)",
+        "told_set(many, equations)", "counter(equations, condition)"],
+    "leasts": ["least(equations)", "ground(equations)"],
+    "unsolved": ["unsolved_paper(equations)", "is_unsolved_paper(equations, paper)"],
 }
 
 

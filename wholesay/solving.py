@@ -1,0 +1,73 @@
+"""Least and ground solutions of equations; nothing is checked here but how many there are."""
+
+from math import gcd
+
+from wholesay.errors import TooGreat
+from wholesay.lattices import sifted
+from wholesay.lifting import MOST_FOUND, lifted
+from wholesay.squares import added
+
+
+def whole_rows(count, rows):
+    """Rows that span all integer solutions of the eq and mod: (ONE, the unknowns .., the values of all conditions ..).
+
+    ONE tells how often the constants are added: 1 in a solution, 0 in one of the homogeneous equations.
+    """
+    ones = [tuple([1 if at == place else 0 for at in range(count + 1)]) for place in range(count + 1)]
+    found = [one + tuple([one[0] * row[-1] + unit_value(row[-2], one[1:]) for row in rows]) for one in ones]
+    for at, row in enumerate(rows):
+        if row[0] != "ge":
+            place = count + 1 + at
+            found, last = sifted(found, place)
+            if row[0] == "mod" and last is not None:
+                found.append(added(last, last, row[1] // gcd(row[1], last[place]) - 1))
+    return found
+
+
+def unit_value(factors, one):
+    """The factor at the place of the 1, 0 if there is none."""
+    return sum([factor for factor, number in zip(factors, one) if number == 1])
+
+
+def live_places(places, units, found):
+    """The places at which a row may still be below 0."""
+    return [place for place in places if any([row[place] != 0 for row in units])
+            or any([row[place] < 0 for row in found])]
+
+
+def work_at(place, units, found):
+    """About how many sums must be looked at, at a place."""
+    step = 0
+    for row in units:
+        step = gcd(step, row[place])
+    if step != 0:
+        many = len([row for row in found if row[place] % step != 0])
+        return many * many
+    return len([row for row in found if row[place] > 0]) * len([row for row in found if row[place] < 0])
+
+
+def least_rows_of_lattice(rows, places):
+    """The rows without numbers below 0, ONE at most 1, that are no sums of others; TooGreat(400)."""
+    units, first = sifted(rows, 0)
+    found = [first] if first is not None and first[0] == 1 else []
+    done = [0]
+    places = live_places(places, units, found)
+    while places:
+        works = [work_at(place, units, found) for place in places]
+        place = places[works.index(min(works))]
+        units, step = sifted(units, place)
+        found = lifted(found, step, done, place, None if units else places)
+        done = done + [place]
+        places = live_places(places, units, found)
+    if len(found) > MOST_FOUND:
+        raise TooGreat(MOST_FOUND)
+    return found
+
+
+def solved(equations):
+    """The pair of the least and the ground solutions, two ascending tuples; TooGreat(400)."""
+    count, rows = equations
+    places = list(range(1, count + 1)) + [count + 1 + at for at, row in enumerate(rows) if row[0] == "ge"]
+    found = least_rows_of_lattice(whole_rows(count, rows), places)
+    least = tuple(sorted([row[1:count + 1] for row in found if row[0] == 1]))
+    return (least, tuple(sorted([row[1:count + 1] for row in found if row[0] == 0])))
