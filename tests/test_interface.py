@@ -51,6 +51,19 @@ INTERFACE = {
         "told_set(many, equations)", "counter(equations, condition)"],
     "leasts": ["least(equations)", "ground(equations)"],
     "unsolved": ["unsolved_paper(equations)", "is_unsolved_paper(equations, paper)"],
+    "turning": [
+        "set_of(many, formula)", "formula_of(value)", "machine_of_set(value)", "set_within(one, other)",
+        "set_apart(one, other)", "set_others(value)", "set_less(one, other)"],
+    "counting": [
+        "count_at(machine, n)", "count_below(machine, n)", "endless(machine)", "finite_part(machine)",
+        "ways(machine)", "exactly(machine, how_many)", "counts_left(machine, modulus, rest)"],
+    "basis": [
+        "counts_alike(first, second)", "first_count_apart(first, second)", "count_paper(first, second)",
+        "is_count_paper(first, second, paper)"],
+    "grammars": [
+        "need_grammar(value)", "word_of(grammar, way)", "uses_in(grammar, way)", "is_way(grammar, way)",
+        "is_uses(grammar, uses)", "letters_of(grammar, uses)", "way_with(grammar, uses)"],
+    "trees": ["rounds(grammar, way)", "flattened(grammar, way)"],
 }
 
 
