@@ -93,6 +93,10 @@ class Counts(unittest.TestCase):
             self.assertEqual(count_at(COINS, n), n // 6 + (n % 6 != 1))
             self.assertEqual(count_below(machine_of(3, ("and", (ge(0, (0, 1), (1, -1)), ge(0, (0, 1), (2, -1))))), n),
                              n * (n + 1) * (2 * n + 1) // 6)
+            # x1 + 2 x2 <= n + 20, counted by x2.
+            room = n + 20
+            self.assertEqual(count_at(machine_of(3, ge(20, (0, 1), (1, -1), (2, -2))), n),
+                             (room // 2 + 1) * (room + 1) - (room // 2) * (room // 2 + 1))
         self.assertEqual(count_below(ABOVE, 0), 0)
         self.assertIsNone(count_below(ABOVE, 1))
         self.assertEqual(count_below(MIXED, 5), 9)

@@ -3,7 +3,8 @@
 import unittest
 
 from tests.helpers import BILLION, NUMBER, STRANGE, make_rand, refused, refuses_strange
-from tests.trying import fits, plus, rand_condition, rand_equations, slow_least, slow_rows, slow_solutions
+from tests.trying import (
+    box, fits, plus, rand_condition, rand_equations, slow_least, slow_rows, slow_solutions, worth)
 from wholesay.equations import counter, homogeneous, need_equations, solves, split, told_set
 from wholesay.errors import BadEquations, BadRow, BadWidth, NoRow, TooGreat, Unlike
 from wholesay.leasts import ground, least
@@ -43,8 +44,9 @@ class Passed(unittest.TestCase):
     def test_conditions(self):
         good = ("eq", (1, 2), 3)
         for bad in STRANGE + (
-                ("eq",), ("eq", (1, 2)), ("eq", (1, 2), 3, 4), ("mod", (1, 2), 3), ("mod", 2, (1, 2)), ["eq", (1, 2), 3],
-                ("ge", 2, (1, 2), 3), ("mod", 2, (1, 2), 3, 4), ("no", (1, 2), 3), (None, (1, 2), 3),
+                ("eq",), ("eq", (1, 2)), ("eq", (1, 2), 3, 4), ("mod", (1, 2), 3), ("mod", 2, (1, 2)),
+                ["eq", (1, 2), 3],
+                ("ge", 2, (1, 2), 3), ("mod", 2, (1, 2), 3, 4), ("mod", 2, 0, (1, 2), 3), ("no", (1, 2), 3), (None, (1, 2), 3),
                 ("eq", (1,), 3), ("eq", (1, 2, 3), 3), ("eq", [1, 2], 3), ("eq", (1, 101), 3), ("ge", (-101, 1), 3),
                 ("eq", (True, 1), 3), ("eq", (1, 1.0), 3), ("eq", (1, 2), 1001), ("ge", (1, 2), -1001),
                 ("eq", (1, 2), False), ("eq", (1, 2), None), ("mod", 1, (1, 2), 3), ("mod", 1001, (1, 2), 3),
@@ -125,6 +127,49 @@ class Least(unittest.TestCase):
             top = 12
             sums = slow_rows((equations[0], tuple((base, ground(equations)) for base in least(equations))), top)
             self.assertEqual(sums, set(slow_solutions(equations, top)), equations)
+
+    def test_more_unknowns(self):
+        rand = make_rand(3803)
+        told = bounded = 0
+        for _ in range(120):
+            count = rand.randint(4, 6)
+            rows = tuple(rand_condition(rand, count, 4, 8) for _ in range(rand.randint(1, 4)))
+            try:
+                found = (least((count, rows)), ground((count, rows)))
+            except TooGreat:
+                continue
+            told += 1
+            bounded += not found[1]
+            ge = [row for row in rows if row[0] == "ge"]
+            seen = [[row + tuple(worth(each, row, const) for each in ge) for row in some]
+                    for some, const in ((found[0], True), (found[1], False))]
+
+            def beneath(one, other):
+                return all(a <= b for a, b in zip(one, other))
+
+            # None is beneath another one, and each solution in a box has one beneath it.
+            for some in seen:
+                for at, row in enumerate(some):
+                    self.assertFalse(any(beneath(each, row) for k, each in enumerate(some) if k != at))
+                    self.assertFalse(some is seen[0] and any(beneath(each, row) for each in seen[1]))
+            for row in box(count, (4, 3, 2)[count - 4]):
+                for some, const in ((seen[0], True), (seen[1], False)):
+                    if all(fits(each, row, const) for each in rows) and (const or any(row)):
+                        values = row + tuple(worth(each, row, const) for each in ge)
+                        self.assertTrue(any(beneath(each, values) for each in some), (rows, row))
+            for some, const in ((found[0], True), (found[1], False)):
+                self.assertTrue(all(fits(each, row, const) for row in some for each in rows))
+        self.assertTrue(told > 80 and bounded > 5, (told, bounded))
+
+    def test_bounded(self):
+        # x0 + .. + x5 is 2, and x0 - x1 at least 1: no ground solutions, as all numbers are bounded.
+        equations = (6, (("eq", (1,) * 6, -2), ("ge", (1, -1, 0, 0, 0, 0), -1)))
+        self.assertEqual(ground(equations), ())
+        self.assertEqual(least(equations), tuple(sorted(row for row in box(6, 2) if sum(row) == 2 and row[0] > row[1])))
+        # No solution, as a bar shows; but x0 = x1 = .. makes a homogeneous one with x4 and x5 at 0.
+        equations = (6, (("eq", (1, -1, 0, 0, 0, 0), 0), ("eq", (0, 1, -1, 0, 0, 0), 0), ("eq", (0, 0, 1, -1, 0, 0), 0),
+                         ("ge", (0, 0, 0, 0, -1, -1), -1)))
+        self.assertEqual((least(equations), ground(equations)), ((), ((1, 1, 1, 1, 0, 0),)))
 
     def test_greater_factors(self):
         for one, other, const in ((100, -99, 0), (100, -99, -1000), (97, -89, 1000), (-7, 100, -13)):
@@ -226,6 +271,14 @@ class ToldSet(unittest.TestCase):
         refused(self, (TooGreat, BILLION), told_set, 1, passed)
         self.assertEqual(told_set(1, (2, (("mod", 1000, (0, 1), 0), ("mod", 999, (0, 1), 0), ("mod", 997, (0, 1), 0),
                                           ("mod", 7, (0, 1), 0)))), (1, (((0,), ((1,),)),)))
+        # The last unknown is 10, each one ahead is 100 times the one behind it.
+        for last, error in ((10, None), (11, (TooGreat, BILLION))):
+            rows = [("eq", tuple((at == one) - 100 * (at == one + 1) for at in range(5)), 0) for one in range(4)]
+            chain = (5, tuple(rows) + (("eq", (0, 0, 0, 0, 1), -last),))
+            if error is None:
+                self.assertEqual(told_set(1, chain), (1, (((BILLION,), ()),)))
+            else:
+                refused(self, error, told_set, 1, chain)
         # No solution, so no line that has the great number.
         self.assertEqual(told_set(1, (1, passed[1] + (("ge", (0,), -1),))), (1, ()))
         # x + 2 y = 2 z times 1 to 12: as many periods.

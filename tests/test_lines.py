@@ -210,7 +210,7 @@ class Bars(unittest.TestCase):
                 (1, (2, 0), ("rest", 2, 2, (1, 0)), False), (0, (2, 1), ("apart", (1, -1, 0)), False),
                 (0, (2, 1), ("apart", (1,)), False), (0, (2, 1), ("apart", [1, -1]), False),
                 (0, (2, 1), ["apart", (1, -1)], False), (0, (2, 1), ("apart", (True, -1)), False),
-                (0, (2, 1), ("apart", (1.0, -1.0)), False), (0, (2, 1), ("other", (1, -1)), False),
+                (0, (2, 1), ("apart", (1.0, -1.0)), False), (0, (2, 1), ("other", (1, -1)), False), (0, (1, 2), ("other", (1, -1)), False),
                 (0, (2, 1), (0, (1, -1)), False), (0, (2, 1), ("apart",), False), (0, (2, 1), (("apart",), (1, -1)), False)):
             self.assertIs(is_bar(value, place, row, bar), truth, (place, row, bar))
         for bar in STRANGE:

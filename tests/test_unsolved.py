@@ -105,7 +105,7 @@ class Judged(unittest.TestCase):
                              (("cases", 1, (-1,), (third,)), False), (("cases", 2, (-1,), (third,)), False),
                              (("cases", 3, (-1,), (third,)), False), (("cases", -1, (-1,), (third,)), False),
                              (("cases", False, (-1,), (third,)), False), (("cases", 0, (-1,), [third]), False),
-                             (("cases", 0, (-1,), (third,), ()), False), (("cases", 0, (-1,)), False),
+                             (("cases", 0, (-1,), (third,), ()), False), (("case", 0, (-1,), (third,)), False), (("cases", 0, (-1,)), False),
                              (("cases", 0, [-1], (third,)), False), (("cases", 0, (-1, 0), (third,)), False),
                              (("cases", 0, (-1,), (COINS_PAPER,)), False), (("cases", 0, (-1,), (None,)), False),
                              (("cases", 0, (-1,), (("cases", 1, (-1,), (("bar", (-1,)),)),)), False),
@@ -130,6 +130,23 @@ class Judged(unittest.TestCase):
         self.assertIs(is_unsolved_paper(flat, ("cases", 3, (0, 0, 1), (inner, inner))), True)
         self.assertIs(is_unsolved_paper(flat, ("cases", 1, (1, 0, 2), (inner, inner))), False)
         self.assertIs(is_unsolved_paper(flat, ("cases", 2, (0, 0, 1), (inner, inner))), False)
+
+    def test_cases_of_the_value(self):
+        # 2 x = 1, 2 x + 1 even, x <= 1: the mod alone leaves a rest in each case.
+        flat = (1, (("eq", (2,), -1), ("mod", 2, (2,), 1), ("ge", (-1,), 1)))
+        even = ("rest", 2, (0, 1, 0))
+        self.assertIs(is_unsolved_paper(flat, ("cases", 3, (0, 0, 1), (even, even))), True)
+        self.assertIs(is_unsolved_paper(flat, ("cases", 3, (1, 0, 2), (even,))), True)
+        self.assertIs(is_unsolved_paper(flat, ("cases", 1, (1, 0, 2), (even, even))), False)
+        self.assertIs(is_unsolved_paper(flat, ("cases", 2, (1, 0, 2), (even, even))), False)
+        # A weight of 0, and a weighed C below 0.
+        two = (2, (("ge", (0, 0), 5), ("ge", (-1, -1), 3), ("mod", 2, (0, 0), 1)))
+        even = ("rest", 2, (0, 0, 1))
+        self.assertIs(is_unsolved_paper(two, ("cases", 3, (0, 1, 0), (even,) * 4)), True)
+        for many in range(7):
+            self.assertIs(is_unsolved_paper(two, ("cases", 2, (0, 1, 0), (even,) * many)), False)
+        self.assertIs(is_unsolved_paper(two, ("cases", 2, (1, 1, 0), (even,) * 9)), True)
+        self.assertIs(is_unsolved_paper((1, (("ge", (-1,), -1),)), ("cases", 0, (1,), ())), False)
 
     def test_deep_papers(self):
         paper = ("bar", (1,))

@@ -32,13 +32,13 @@ class Pair:
         self.tables = [targets_of(parts[0][1], digit) + behind[digit] for digit in range(2)]
         # Weights by which a row of numbers makes the count of the first one less that of the second one.
         self.gaps = lasts_of(parts[0][1], parts[0][2]) + [-last for last in lasts_of(parts[1][1], parts[1][2])]
-        self.first = first_numbers(self.ahead) + first_numbers(self.many - self.ahead)
+        self.start = first_numbers(self.ahead) + first_numbers(self.many - self.ahead)
 
     def words(self):
         """The rows of the digit words of which none is a combination of the rows of earlier ones."""
         span = Span()
         found = []
-        level = [self.first] if span.put(self.first) else []
+        level = [self.start] if span.put(self.start) else []
         while level:
             found.extend(level)
             # A word goes on behind one that counts, or is a combination of others that do as this one is.
@@ -52,7 +52,7 @@ class Pair:
 
     def first_gap(self):
         """The least parameter at which the finite counts are unlike, None if there is none."""
-        levels = [[self.first]]
+        levels = [[self.start]]
         while self.is_alike(levels[-1]):
             if len(levels) > self.many:
                 return None
@@ -112,7 +112,7 @@ def is_count_paper(first, second, paper):
     for row in paper:
         span.put(row)
     made = [moved_on(row, table) for table in pair.tables for row in paper]
-    return pair.is_alike(paper) and span.holds(pair.first) and all([span.holds(row) for row in made])
+    return pair.is_alike(paper) and span.holds(pair.start) and all([span.holds(row) for row in made])
 
 
 def is_in_bounds(row):

@@ -3,7 +3,7 @@
 from wholesay.conditions import are_held, change_of, is_condition, is_held, level_rows, value_of
 from wholesay.errors import BadEquations, BadRow, NoRow, TooGreat, Unlike
 from wholesay.kinds import MOST_FACTOR, is_between, is_row, is_tuple_of
-from wholesay.lines import MOST_PERIODS, set_with, unlike_periods
+from wholesay.lines import set_with
 from wholesay.solving import solved
 from wholesay.squares import added
 from wholesay.terms import need_many
@@ -80,11 +80,9 @@ def told_set(many, equations):
 
 
 def set_of_lines(many, bases, periods):
-    """The set with a line for each base, all with the same periods; TooGreat ahead of what set_with raises."""
+    """The set with a line for each base, all with the same periods; TooGreat of a great number comes first."""
     if bases and max([max(row) for row in bases + periods]) > MOST_FACTOR:
         raise TooGreat(MOST_FACTOR)
-    if bases and len(unlike_periods(periods)) > MOST_PERIODS:
-        raise TooGreat(MOST_PERIODS)
     return set_with(many, [(base, periods) for base in bases])
 
 

@@ -13,104 +13,155 @@ from wholesay.errors import TooGreat
 from wholesay.squares import added
 
 MOST_FOUND = 400
+MOST_LIKELY = 16
+
+
+class Side:
+    """The rows found with one sign at the place: (LEVEL, KEY, NUMBER, ROW, MOTHER), levels ascending.
+
+    NUMBER is that at the place, without its sign. MOTHER is the one of the row of this side of which a sum was made,
+    0 if the row is no such sum.
+    """
+
+    def __init__(self, guards):
+        self.guards = guards
+        self.rows = []
+        # The keys that were the last ones to show sums, as these often show the next one.
+        self.likely = []
+
+    def is_under(self, key, level):
+        """Whether one of the rows is nowhere greater than a row with this key."""
+        guards = self.guards
+        key = key | guards
+        for at, other in enumerate(self.likely):
+            if (key - other) & guards == guards:
+                self.prefer(other, at)
+                return True
+        for row in self.rows:
+            # Of the rows that a sum is made of one has half its level at most.
+            if 2 * row[0] > level:
+                return False
+            if (key - row[1]) & guards == guards:
+                self.prefer(row[1], MOST_LIKELY - 1)
+                return True
+        return False
+
+    def prefer(self, key, at):
+        """Put a key ahead of the likely ones, which are at this index or end there."""
+        self.likely = [key] + self.likely[:at] + self.likely[at + 1:]
 
 
 class Lifting:
-    """The work at one place. The first done place tells a part of which a row may have one at most."""
+    """The work at one place. `tops` has the greatest number that may stay in the end, for some of the done places.
 
-    def __init__(self, rows, step, done, place):
+    The key of a row packs its numbers at the done places and, without its sign, that at the place, side by side in one
+    integer; above each of them one bit, the guard, stays free, so that all are compared by one difference.
+    """
+
+    def __init__(self, rows, step, done, place, tops):
         self.done = done
         self.place = place
         self.step = step
         self.width = width_for(rows if step is None else rows + [step], done, place)
         self.shift = self.width * len(done)
         self.guards = sum([1 << (self.width * (at + 1) - 1) for at in range(len(done) + 1)])
-        # The rows found, by the sign at the place: (LEVEL, KEY, ROW), levels ascending; the key packs what is compared.
-        self.above = []
-        self.level = []
-        self.below = []
+        most = (1 << (self.width - 1)) - 1
+        self.tops = self.guards | self.packed([tops.get(each, most) for each in done], most)
+        self.above = Side(self.guards)
+        self.middle = Side(self.guards)
+        self.below = Side(self.guards)
         self.waiting = {}
         self.queue = []
         self.left = None
         self.counted = 0
         for row in rows:
-            self.wait(row, sum([row[each] for each in done]))
+            if self.may_stay(self.key(row)):
+                self.offer(row, self.key(row), sum([row[each] for each in done]), 0)
 
-    def side(self, number):
-        """The rows found with the sign of a number."""
-        if number == 0:
-            return self.level
-        return self.above if number > 0 else self.below
-
-    def count(self, row):
-        """Count a row that stays whatever comes at the places that are left; TooGreat of too many of them."""
-        if self.left is not None and row[self.place] >= 0 and all([row[each] >= 0 for each in self.left]):
-            self.counted += 1
-            if self.counted > MOST_FOUND:
-                raise TooGreat(MOST_FOUND)
-
-    def key(self, row):
-        """The numbers of a row at the done places and, without its sign, at the place, side by side in one integer."""
-        found = abs(row[self.place])
-        for each in self.done:
-            found = found << self.width | row[each]
+    def packed(self, numbers, last):
+        """The key of these numbers at the done places and the last one at the place."""
+        found = last
+        for number in reversed(numbers):
+            found = found << self.width | number
         return found
 
-    def wait(self, row, level):
-        """Let a row be looked at in its turn."""
-        if level not in self.waiting:
-            self.waiting[level] = []
-            heappush(self.queue, level)
-        self.waiting[level].append(row)
+    def key(self, row):
+        """The key of a row."""
+        return self.packed([row[each] for each in self.done], abs(row[self.place]))
 
-    def is_sum(self, row, level):
-        """Whether a row is a sum of others of its own side."""
-        if self.is_above_one(self.key(row), level, self.level):
+    def side(self, number):
+        """The side with the sign of a number."""
+        if number == 0:
+            return self.middle
+        return self.above if number > 0 else self.below
+
+    def may_stay(self, key):
+        """Whether no number of a row, and so of any sum with it, is above its top."""
+        return (self.tops - key) & self.guards == self.guards
+
+    def is_sum(self, key, level, number):
+        """Whether a row with this key, and this number at the place, is a sum of others of its own side."""
+        if self.middle.is_under(key, level):
             return True
-        return row[self.place] != 0 and self.is_above_one(self.key(row), level, self.side(row[self.place]))
+        return number != 0 and self.side(number).is_under(key, level)
 
-    def is_above_one(self, key, level, found):
-        """Whether one of the rows found is nowhere greater than a row with this key."""
-        guards = self.guards
-        key = key | guards
-        for other in found:
-            # Of the rows that a sum is made of one has half its level at most.
-            if 2 * other[0] > level:
-                return False
-            if (key - other[1]) & guards == guards:
-                return True
-        return False
+    def offer(self, row, key, level, mother):
+        """Let a row that is no sum be kept in its turn."""
+        if level not in self.waiting:
+            self.waiting[level] = {}
+            heappush(self.queue, level)
+        self.waiting[level][row] = (key, mother)
 
     def settle(self, level):
-        """Look at all rows of one level."""
-        seen = set()
-        rows = self.waiting.pop(level)
-        while rows:
-            row = rows.pop()
-            if row not in seen:
-                seen.add(row)
-                if not self.is_sum(row, level):
-                    rows.extend(self.twins(row))
-                    self.keep(row, level)
+        """Keep all rows of one level. Only then let their sums wait: all that may show these to be sums is known."""
+        told = self.waiting.pop(level)
+        starts = (len(self.above.rows), len(self.below.rows))
+        for row in told:
+            key, mother = told[row]
+            self.keep(row, key, level, mother)
+            twin = self.twin(row)
+            if twin is not None and twin not in told and not self.is_sum(self.key(twin), level, twin[self.place]):
+                self.keep(twin, self.key(twin), level, 0)
+        for one in self.above.rows[starts[0]:]:
+            for other in self.below.rows:
+                self.join(one, other)
+        for other in self.below.rows[starts[1]:]:
+            for one in self.above.rows[:starts[0]]:
+                self.join(one, other)
 
-    def twins(self, row):
-        """The row on the other side of the step, if any."""
+    def twin(self, row):
+        """The row on the other side of the step, None if there is none."""
         number = row[self.place]
         if self.step is None or number == 0:
-            return []
-        return [added(row, self.step, -1 if number > 0 else 1)]
+            return None
+        return added(row, self.step, -1 if number > 0 else 1)
 
-    def keep(self, row, level):
-        """Keep a row that is no sum, and let its sums with those of the other side wait."""
+    def keep(self, row, key, level, mother):
+        """Keep a row; TooGreat of too many that stay whatever comes at the places that are left."""
         number = row[self.place]
-        self.side(number).append((level, self.key(row), row))
-        self.count(row)
-        if number != 0:
-            for other_level, _, other in self.side(-number):
-                if row[self.done[0]] + other[self.done[0]] <= 1:
-                    made = added(row, other, 1)
-                    if not self.is_sum(made, level + other_level):
-                        self.wait(made, level + other_level)
+        self.side(number).rows.append((level, key, abs(number), row, mother))
+        if self.left is not None and number >= 0 and all([row[each] >= 0 for each in self.left]):
+            self.reckon()
+
+    def reckon(self):
+        """Count a row that stays."""
+        self.counted += 1
+        if self.counted > MOST_FOUND:
+            raise TooGreat(MOST_FOUND)
+
+    def join(self, one, other):
+        """Let the sum of a row above and a row below wait, if it may stay and is no sum of others.
+
+        A row whose mother brings the other one to its own side makes sums of rows of one side only.
+        """
+        if 0 < one[4] <= other[2] or 0 < other[4] <= one[2]:
+            return
+        number = one[2] - other[2]
+        key = one[1] + other[1] - (2 * min(one[2], other[2]) << self.shift)
+        level = one[0] + other[0]
+        if self.may_stay(key) and not self.is_sum(key, level, number):
+            mother = one[2] if number > 0 else other[2]
+            self.offer(added(one[3], other[3], 1), key, level, mother if number != 0 else 0)
 
 
 def width_for(rows, done, place):
@@ -124,19 +175,19 @@ def width_for(rows, done, place):
     return (8 * (most + top) * (top + 2)).bit_length() + 2
 
 
-def lifted(rows, step, done, place, left):
-    """The rows that are no sums of others, with a number from 0 on at the place.
+def lifted(rows, step, done, place, tops, left):
+    """The rows that are no sums of others, with a number from 0 on at the place, and none above its top.
 
     Where `left` has the places that are left, and no other step is, a row with no number below 0 stays what it is to
     the end; TooGreat if these alone are more than 400.
     """
     if step is not None:
         rows = [added(row, step, -(row[place] // step[place])) for row in rows]
-    work = Lifting(rows, step, done, place)
+    work = Lifting(rows, step, done, place, tops)
     work.left = left
-    if step is not None:
-        work.count(step)
+    if step is not None and left is not None and all([step[each] >= 0 for each in left]):
+        work.reckon()
     while work.queue:
         work.settle(heappop(work.queue))
-    found = [row for _, _, row in work.level + work.above]
+    found = [told[3] for told in work.middle.rows + work.above.rows]
     return found if step is None else found + [step]

@@ -10,22 +10,22 @@ def rest_weights(count, rows):
     """(K, WEIGHTS) as in a paper of the kind rest; None if some integers hold all eq and mod.
 
     What the unknowns and the moduli add to the values spans a lattice. Row by row one of its members, the step, is
-    singled out that alone counts there, so what is left of the constants can be brought to 0 in one way at most.
+    singled out that alone counts there, so what is left of the constants can be brought to 0 in one way at most. The
+    eq must not be at odds over fractions (a bar tells that): so where there is no step nothing is left.
     """
     numbers = [number for number, row in enumerate(rows) if row[0] != "ge"]
-    consts = tuple([rows[number][-1] for number in numbers])
     spans = spans_of(count, rows, numbers)
-    left = consts
+    left = tuple([rows[number][-1] for number in numbers])
     steps = []
     for at in range(len(numbers)):
         spans, step = sifted(spans, at)
-        if left[at] % (abs(left[at]) + 1 if step is None else step[at]) != 0:
-            modulus, weights = rest_at(steps, at, step, consts)
-            told = [0 for _ in rows]
-            for number, weight in zip(numbers, weights):
-                told[number] = weight
-            return (modulus, tuple(told))
         if step is not None:
+            if left[at] % step[at] != 0:
+                modulus, weights = rest_at(steps, at, step)
+                told = [0 for _ in rows]
+                for number, weight in zip(numbers, weights):
+                    told[number] = weight
+                return (modulus, tuple(told))
             left = added(left, step, -(left[at] // step[at]))
             steps.append((at, step))
     return None
@@ -40,18 +40,15 @@ def spans_of(count, rows, numbers):
     return found
 
 
-def rest_at(steps, at, step, consts):
-    """(K, WEIGHTS) where the rest is left at this place, by weights that make nothing of the steps ahead of it."""
-    weights = [1 if place == at else 0 for place in range(len(consts))]
-    scale = 1
+def rest_at(steps, at, step):
+    """(K, WEIGHTS) where a step leaves a rest, by weights that make nothing of the steps ahead of it."""
+    weights = [1 if place == at else 0 for place in range(len(step))]
+    modulus = step[at]
     for place, each in reversed(steps):
         made = weighed(weights, each)
         weights = [each[place] * weight for weight in weights]
         weights[place] = -made
-        scale = scale * each[place]
-    if step is None:
-        return (abs(weighed(weights, consts)) + 1, weights)
-    modulus = scale * step[at]
+        modulus = modulus * each[place]
     shared = modulus
     for weight in weights:
         shared = gcd(shared, weight)

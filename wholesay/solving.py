@@ -2,10 +2,13 @@
 
 from math import gcd
 
-from wholesay.errors import TooGreat
+from wholesay.conditions import level_rows
 from wholesay.lattices import sifted
-from wholesay.lifting import MOST_FOUND, lifted
+from wholesay.lifting import lifted
 from wholesay.squares import added
+from wholesay.weighing import Table, bar_weights, bounded_cases, most_of
+
+MANY_PLACES = 6
 
 
 def whole_rows(count, rows):
@@ -36,31 +39,44 @@ def live_places(places, units, found):
 
 
 def work_at(place, units, found):
-    """About how many sums must be looked at, at a place."""
+    """How hard a place seems: of those with the fewest rows above 0, few sums of them stay to be looked at."""
     step = 0
     for row in units:
         step = gcd(step, row[place])
     if step != 0:
-        many = len([row for row in found if row[place] % step != 0])
-        return many * many
-    return len([row for row in found if row[place] > 0]) * len([row for row in found if row[place] < 0])
+        return len([row for row in found if row[place] % step != 0])
+    return len([row for row in found if row[place] > 0])
 
 
-def least_rows_of_lattice(rows, places):
-    """The rows without numbers below 0, ONE at most 1, that are no sums of others; TooGreat(400)."""
+def tops_of(count, rows):
+    """The greatest number at each place at which solutions are bounded, as weighings tell; ONE is told, too.
+
+    If a bar shows that there is no solution, this is told of the homogeneous equations.
+    """
+    table = Table(count, rows)
+    tops = {0: 1}
+    if bar_weights(table, len(rows)) is not None:
+        tops = {0: 0}
+        rows = level_rows(rows)
+        table = Table(count, rows)
+    for case, weights in bounded_cases(count, rows, table):
+        tops[case + 1] = most_of(count, rows, case, weights)
+    return tops
+
+
+def least_rows_of_lattice(rows, places, tops):
+    """The rows with no number below 0 or above its top that are no sums of others; TooGreat(400)."""
     units, first = sifted(rows, 0)
-    found = [first] if first is not None and first[0] == 1 else []
+    found = [first] if first is not None and first[0] <= tops[0] else []
     done = [0]
     places = live_places(places, units, found)
     while places:
         works = [work_at(place, units, found) for place in places]
         place = places[works.index(min(works))]
         units, step = sifted(units, place)
-        found = lifted(found, step, done, place, None if units else places)
+        found = lifted(found, step, done, place, tops, None if units else places)
         done = done + [place]
         places = live_places(places, units, found)
-    if len(found) > MOST_FOUND:
-        raise TooGreat(MOST_FOUND)
     return found
 
 
@@ -68,6 +84,7 @@ def solved(equations):
     """The pair of the least and the ground solutions, two ascending tuples; TooGreat(400)."""
     count, rows = equations
     places = list(range(1, count + 1)) + [count + 1 + at for at, row in enumerate(rows) if row[0] == "ge"]
-    found = least_rows_of_lattice(whole_rows(count, rows), places)
+    tops = tops_of(count, rows) if len(places) >= MANY_PLACES else {0: 1}
+    found = least_rows_of_lattice(whole_rows(count, rows), places, tops)
     least = tuple(sorted([row[1:count + 1] for row in found if row[0] == 1]))
     return (least, tuple(sorted([row[1:count + 1] for row in found if row[0] == 0])))

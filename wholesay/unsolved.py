@@ -6,7 +6,8 @@ from wholesay.kinds import is_between, is_integer, is_tuple_of
 from wholesay.lines import is_weights
 from wholesay.remainders import rest_weights
 from wholesay.solving import solved
-from wholesay.weighing import Table, bar_weights, bound_weights, is_weighing, weighed_const, weighed_factors
+from wholesay.weighing import (
+    Table, bar_weights, bounded_cases, is_weighing, most_of, weighed_const, weighed_factors)
 
 
 def unsolved_paper(equations):
@@ -35,19 +36,9 @@ def paper_for(count, rows):
 
 def least_cases(count, rows, table):
     """(MOST, J, WEIGHTS) of the weighing with the fewest cases."""
-    width = len(table.columns)
-    found = [(case, bound_weights(table, width + case, len(rows))) for case in range(count)]
-    for column, (number, _) in enumerate(table.columns):
-        if rows[number][0] == "ge":
-            found.append((count + number, bound_weights(table, column, len(rows))))
-    cases = [(most_of(count, rows, case, weights), case, weights) for case, weights in found if weights is not None]
+    cases = [(most_of(count, rows, case, weights), case, weights)
+             for case, weights in bounded_cases(count, rows, table)]
     return min(cases)
-
-
-def most_of(count, rows, case, weights):
-    """The greatest number that a case may have by a weighing."""
-    share = weights[case - count] if case >= count else -weighed_factors(count, rows, weights)[case]
-    return weighed_const(rows, weights) // share
 
 
 def with_case(count, rows, case, number):

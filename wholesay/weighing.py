@@ -134,3 +134,19 @@ def weighed_factors(count, rows, weights):
 def weighed_const(rows, weights):
     """The constants of the rows, weighed and added up."""
     return weighed(weights, [row[-1] for row in rows])
+
+
+def bounded_cases(count, rows, table):
+    """The pairs (J, WEIGHTS) of the unknowns J, and COUNT and the number of a ge, that weighings bound."""
+    width = len(table.columns)
+    found = [(case, bound_weights(table, width + case, len(rows))) for case in range(count)]
+    for column, (number, _) in enumerate(table.columns):
+        if rows[number][0] == "ge":
+            found.append((count + number, bound_weights(table, column, len(rows))))
+    return [(case, weights) for case, weights in found if weights is not None]
+
+
+def most_of(count, rows, case, weights):
+    """The greatest number that a case may have by a weighing."""
+    share = weights[case - count] if case >= count else -weighed_factors(count, rows, weights)[case]
+    return weighed_const(rows, weights) // share
