@@ -161,7 +161,26 @@ class Least(unittest.TestCase):
                 self.assertTrue(all(fits(each, row, const) for row in some for each in rows))
         self.assertTrue(told > 80 and bounded > 5, (told, bounded))
 
+    def test_hundreds(self):
+        # More than 400 rows come to be looked at on the way to fewer solutions.
+        for equations, many in (
+                ((6, (("ge", (-2, -1, 1, 0, -2, -1), 8), ("ge", (1, 2, -2, -1, 0, 1), 3), ("ge", (-2, 2, 0, 2, -1, 1), 6),
+                      ("mod", 8, (-1, 2, -2, 1, 0, 2), 3))), (391, 1)),
+                ((4, (("mod", 9, (4, -4, 1, -4), 5), ("ge", (-3, 4, 0, -3), 2), ("ge", (-4, 4, 3, 3), 1))), (139, 168)),
+                ((6, (("ge", (-3, 4, -1, -2, 0, -1), -1), ("ge", (1, 1, -4, 2, 4, -3), 6), ("eq", (-4, -4, 4, 2, -3, -4), -6),
+                      ("mod", 5, (1, 1, 0, 0, -1, 0), 0))), (64, 277)),
+                ((5, (("mod", 7, (4, 1, -4, 0, 1), 8), ("mod", 5, (3, 1, -3, 3, -2), 2), ("eq", (1, -3, -4, -2, -3), -2),
+                      ("ge", (2, 0, -1, -4, -4), 2))), (24, 57)),
+                ((5, (("ge", (6, -5, 1, 7, 4), 0), ("ge", (0, -4, -3, 3, -7), 7), ("mod", 5, (4, 4, -1, -3, 6), -4),
+                      ("ge", (4, -7, -3, 1, 7), 6))), (109, 221))):
+            self.assertEqual((len(least(equations)), len(ground(equations))), many)
+
     def test_bounded(self):
+        # The first unknowns are told one by the other, greater by far than the numbers in the conditions.
+        equations = (6, (("eq", (1, 0, 0, 0, 0, 0), -700), ("eq", (1, -2, 0, 0, 0, 0), 0), ("eq", (0, 1, -1, 0, 0, 0), -50),
+                         ("eq", (0, 0, 1, -3, 0, 0), 0), ("ge", (0, 0, 0, 1, -1, 0), -98), ("ge", (0, 0, 0, 0, 1, 0), -1),
+                         ("eq", (0, 0, 0, 0, 0, 1), -900)))
+        self.assertEqual(least(equations), ((700, 350, 300, 100, 1, 900), (700, 350, 300, 100, 2, 900)))
         # x0 + .. + x5 is 2, and x0 - x1 at least 1: no ground solutions, as all numbers are bounded.
         equations = (6, (("eq", (1,) * 6, -2), ("ge", (1, -1, 0, 0, 0, 0), -1)))
         self.assertEqual(ground(equations), ())

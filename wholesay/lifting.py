@@ -33,22 +33,26 @@ class Side:
         """Whether one of the rows is nowhere greater than a row with this key."""
         guards = self.guards
         key = key | guards
-        for at, other in enumerate(self.likely):
-            if (key - other) & guards == guards:
-                self.prefer(other, at)
-                return True
+        at = first_under(self.likely, key, guards)
+        if at is not None:
+            self.likely = [self.likely[at]] + self.likely[:at] + self.likely[at + 1:]
+            return True
         for row in self.rows:
             # Of the rows that a sum is made of one has half its level at most.
             if 2 * row[0] > level:
                 return False
             if (key - row[1]) & guards == guards:
-                self.prefer(row[1], MOST_LIKELY - 1)
+                self.likely = [row[1]] + self.likely[:MOST_LIKELY - 1]
                 return True
         return False
 
-    def prefer(self, key, at):
-        """Put a key ahead of the likely ones, which are at this index or end there."""
-        self.likely = [key] + self.likely[:at] + self.likely[at + 1:]
+
+def first_under(keys, key, guards):
+    """The index of the first of some keys whose numbers are nowhere greater than those of one with its guards set."""
+    for at, other in enumerate(keys):
+        if (key - other) & guards == guards:
+            return at
+    return None
 
 
 class Lifting:
@@ -66,7 +70,7 @@ class Lifting:
         self.shift = self.width * len(done)
         self.guards = sum([1 << (self.width * (at + 1) - 1) for at in range(len(done) + 1)])
         most = (1 << (self.width - 1)) - 1
-        self.tops = self.guards | self.packed([tops.get(each, most) for each in done], most)
+        self.tops = self.guards | self.packed([min(most, tops.get(each, most)) for each in done], most)
         self.above = Side(self.guards)
         self.middle = Side(self.guards)
         self.below = Side(self.guards)
@@ -124,10 +128,10 @@ class Lifting:
                 self.keep(twin, self.key(twin), level, 0)
         for one in self.above.rows[starts[0]:]:
             for other in self.below.rows:
-                self.join(one, other)
+                self.match(one, other)
         for other in self.below.rows[starts[1]:]:
             for one in self.above.rows[:starts[0]]:
-                self.join(one, other)
+                self.match(one, other)
 
     def twin(self, row):
         """The row on the other side of the step, None if there is none."""
@@ -149,7 +153,7 @@ class Lifting:
         if self.counted > MOST_FOUND:
             raise TooGreat(MOST_FOUND)
 
-    def join(self, one, other):
+    def match(self, one, other):
         """Let the sum of a row above and a row below wait, if it may stay and is no sum of others.
 
         A row whose mother brings the other one to its own side makes sums of rows of one side only.
