@@ -89,9 +89,7 @@ def bound_weights(table, forced, many):
     The last row must have no number below 0; it keeps so. One of the column is taken as given: what the others must
     be is told by a column of its own, and rows in which this is below 0 are mended one by one.
     """
-    bounds = [-row[forced] for row in table.rows]
-    for at, row in enumerate(table.rows):
-        row.append(bounds[at])
+    table.rows = [row + [-row[forced]] for row in table.rows]
     while True:
         index = None
         for at, told in enumerate(table.basis):
@@ -105,8 +103,7 @@ def bound_weights(table, forced, many):
         table.pivot(index, column)
     worths = {told: table.rows[at][-1] for at, told in enumerate(table.basis)}
     worths[forced] = worths.get(forced, 0) + table.size
-    for row in table.rows:
-        row.pop()
+    table.rows = [row[:-1] for row in table.rows]
     return None if index is not None else table.weights(worths, many)
 
 
