@@ -9,6 +9,7 @@ from wholesay.squares import added
 from wholesay.weighing import Table, bar_weights, bounded_cases, most_of
 
 MANY_PLACES = 6
+FEW_UNKNOWNS = 6
 
 
 def whole_rows(count, rows):
@@ -83,6 +84,14 @@ def least_rows_of_lattice(rows, places, tops):
 def solved(equations):
     """The pair of the least and the ground solutions, two ascending tuples; TooGreat(400)."""
     count, rows = equations
+    # With the last unknowns at 0 there are no other least and ground solutions: too many of them are soon found.
+    for fewer in range(FEW_UNKNOWNS, count):
+        solutions_of(fewer, tuple([row[:-2] + (row[-2][:fewer], row[-1]) for row in rows]))
+    return solutions_of(count, rows)
+
+
+def solutions_of(count, rows):
+    """As solved, at once."""
     places = list(range(1, count + 1)) + [count + 1 + at for at, row in enumerate(rows) if row[0] == "ge"]
     tops = tops_of(count, rows) if len(places) >= MANY_PLACES else {0: 1}
     found = least_rows_of_lattice(whole_rows(count, rows), places, tops)
