@@ -63,16 +63,24 @@ def bar_weights(table, many):
         column = first_below(table.rows[-1])
         if column is None:
             return None
-        # Of several rows the one of the least column is taken, and the first column, so no circle is gone round.
-        index = None
-        for at, told in enumerate(table.basis):
-            if table.rows[at][column] > 0 and (index is None or told < table.basis[index]):
-                index = at
+        index = row_to_leave(table, [row[column] > 0 for row in table.rows[:-1]])
         if index is None:
             worths = {told: -table.rows[at][column] for at, told in enumerate(table.basis)}
             worths[column] = table.size
             return table.weights(worths, many)
         table.pivot(index, column)
+
+
+def row_to_leave(table, fits):
+    """The index of the row that tells the least column, of those that fit; None if none does.
+
+    As this one and the first column are taken, of several, no circle is gone round.
+    """
+    found = None
+    for at, told in enumerate(table.basis):
+        if fits[at] and (found is None or told < table.basis[found]):
+            found = at
+    return found
 
 
 def first_below(row):
@@ -90,17 +98,13 @@ def bound_weights(table, forced, many):
     be is told by a column of its own, and rows in which this is below 0 are mended one by one.
     """
     table.rows = [row + [-row[forced]] for row in table.rows]
-    while True:
-        index = None
-        for at, told in enumerate(table.basis):
-            if table.rows[at][-1] < 0 and (index is None or told < table.basis[index]):
-                index = at
-        if index is None:
-            break
+    index = row_to_leave(table, [row[-1] < 0 for row in table.rows[:-1]])
+    while index is not None:
         column = mending_column(table.rows[index], table.rows[-1])
         if column is None:
             break
         table.pivot(index, column)
+        index = row_to_leave(table, [row[-1] < 0 for row in table.rows[:-1]])
     worths = {told: table.rows[at][-1] for at, told in enumerate(table.basis)}
     worths[forced] = worths.get(forced, 0) + table.size
     table.rows = [row[:-1] for row in table.rows]
