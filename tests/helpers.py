@@ -5,6 +5,17 @@ from math import gcd
 
 STRANGE = (None, True, False, "0", b"0", 1.0, [], {}, (), (1,), (0, 0, 0, 0, 0, 0), object(), -1, 10 ** 70, "some")
 
+
+
+class Touchy:
+    """A value that bears no comparison."""
+
+    __hash__ = None
+
+    def __eq__(self, other):
+        raise AssertionError("compared")
+
+
 NUMBER = 10 ** 60
 BILLION = 10 ** 9
 ALWAYS = ("and", ())

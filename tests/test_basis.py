@@ -3,7 +3,7 @@
 import unittest
 from fractions import Fraction
 
-from tests.helpers import STRANGE, eq, ge, make_rand, mod, refused, same_value
+from tests.helpers import STRANGE, Touchy, eq, ge, make_rand, mod, refused, same_value
 from tests.slow import rand_machine, turning
 from tests.test_counting import beside, far_counters, rand_counted, slow_count
 from wholesay.basis import count_paper, counts_alike, first_count_apart, is_count_paper
@@ -198,6 +198,8 @@ class Papers(unittest.TestCase):
         self.assertIs(is_count_paper(BELOW, SUMS, paper + (list(paper[0]),)), False)
         for bad in (True, 1.0, "1", None):
             self.assertIs(is_count_paper(BELOW, SUMS, paper + ((bad,) + paper[0][1:],)), False)
+        self.assertIs(is_count_paper(BELOW, SUMS, paper + (Touchy(),)), False)
+        self.assertIs(is_count_paper(BELOW, SUMS, paper + ((Touchy(),) * len(paper[0]),)), False)
         zeros = (0,) * len(paper[0])
         self.assertIs(is_count_paper(BELOW, SUMS, paper + (zeros,) * (40 - len(paper))), True)
         self.assertIs(is_count_paper(BELOW, SUMS, paper + (zeros,) * (41 - len(paper))), False)

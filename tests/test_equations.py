@@ -2,7 +2,7 @@
 
 import unittest
 
-from tests.helpers import BILLION, NUMBER, STRANGE, make_rand, refused, refuses_strange
+from tests.helpers import BILLION, NUMBER, STRANGE, Touchy, make_rand, refused, refuses_strange
 from tests.trying import (
     box, fits, plus, rand_condition, rand_equations, slow_least, slow_rows, slow_solutions, worth)
 from wholesay.equations import counter, homogeneous, need_equations, solves, split, told_set
@@ -44,7 +44,7 @@ class Passed(unittest.TestCase):
     def test_conditions(self):
         good = ("eq", (1, 2), 3)
         for bad in STRANGE + (
-                ("eq",), ("eq", (1, 2)), ("eq", (1, 2), 3, 4), ("mod", (1, 2), 3), ("mod", 2, (1, 2)),
+                ("eq",), (Touchy(), (1, 2), 3), ("eq", (1, Touchy()), 3), ("eq", (1, 2)), ("eq", (1, 2), 3, 4), ("mod", (1, 2), 3), ("mod", 2, (1, 2)),
                 ["eq", (1, 2), 3],
                 ("ge", 2, (1, 2), 3), ("mod", 2, (1, 2), 3, 4), ("mod", 2, 0, (1, 2), 3), ("no", (1, 2), 3), (None, (1, 2), 3),
                 ("eq", (1,), 3), ("eq", (1, 2, 3), 3), ("eq", [1, 2], 3), ("eq", (1, 101), 3), ("ge", (-101, 1), 3),

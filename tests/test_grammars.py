@@ -3,7 +3,7 @@
 import unittest
 from itertools import product
 
-from tests.helpers import STRANGE, make_rand, refused, same_value
+from tests.helpers import STRANGE, Touchy, make_rand, refused, same_value
 from wholesay.errors import BadGrammar, BadPaper, TooGreat
 from wholesay.grammars import is_uses, is_way, letters_of, need_grammar, uses_in, way_with, word_of
 from wholesay.trees import flattened, rounds
@@ -70,7 +70,7 @@ class Passed(unittest.TestCase):
                     (0,), (0, (), ()), [0, ()], (-1, ()), (4, ()), (True, ()), ("0", ()), (None, ()), (0, []), (0, None),
                     (0, (A,) * 7), (0, (("letter", 2),)), (0, (("letter", -1),)), (0, (("letter", False),)),
                     (0, (("variable", 4),)), (0, (("variable", -1),)), (0, (("variable", True),)), (0, (("rule", 0),)),
-                    (0, ((0, 0),)), (0, (("letter",),)), (0, (("letter", 0, 0),)), (0, (["letter", 0],)), (0, (A, None)),
+                    (0, ((0, 0),)), (0, (("letter",),)), (0, ((Touchy(), 0),)), (0, (("letter", 0, 0),)), (0, (["letter", 0],)), (0, (A, None)),
                     (0, ("letter", 0)), (0, (("letter", 0.0),))):
                 refused(self, (BadGrammar, (1, 0)), call, (2, (rule,)), *more)
                 refused(self, (BadGrammar, (1, 2)), call, (2, (good, good, rule, None)), *more)

@@ -2,7 +2,7 @@
 
 import unittest
 
-from tests.helpers import BILLION, NUMBER, STRANGE, make_rand, refused, refuses_strange, same_value
+from tests.helpers import BILLION, NUMBER, STRANGE, Touchy, make_rand, refused, refuses_strange, same_value
 from tests.trying import box, plus, rand_set, slow_rows
 from wholesay.errors import BadIndex, BadRow, BadSet, BadWidth, TooGreat, Unlike
 from wholesay.lines import bars, is_bar, made_set, need_set, turns
@@ -215,6 +215,8 @@ class Bars(unittest.TestCase):
             self.assertIs(is_bar(value, place, row, bar), truth, (place, row, bar))
         for bar in STRANGE:
             self.assertIs(is_bar(value, 0, (2, 1), bar), False)
+        self.assertIs(is_bar(value, 0, (2, 1), (Touchy(), (1, -1))), False)
+        self.assertIs(is_bar(value, 0, (2, 1), ("apart", (1, Touchy()))), False)
         # Each kind is judged by each period, not by the first one alone.
         self.assertIs(is_bar(value, 1, (1, 1), ("apart", (0, 1))), False)
         self.assertIs(is_bar(value, 1, (0, 0), ("less", (1, -2))), False)

@@ -2,7 +2,7 @@
 
 import unittest
 
-from tests.helpers import STRANGE, make_rand, refused
+from tests.helpers import STRANGE, Touchy, make_rand, refused
 from tests.trying import rand_equations, slow_solutions
 from wholesay.equations import solves
 from wholesay.errors import BadEquations, TooGreat, Unlike
@@ -69,6 +69,9 @@ class Judged(unittest.TestCase):
             self.assertIs(is_unsolved_paper(APART, paper), False)
             self.assertIs(is_unsolved_paper(APART, ("bar", paper)), False)
             self.assertIs(is_unsolved_paper((1, ()), ("bar", paper)), False)
+        for paper in (Touchy(), (Touchy(), (-1, 1)), ("bar", (Touchy(), 1)), ("rest", Touchy(), (-1, 1)),
+                      ("cases", Touchy(), (-1, 1), ()), ("cases", 0, (-1, 1), Touchy())):
+            self.assertIs(is_unsolved_paper(APART, paper), False)
         below = (2, (("ge", (1, 1), 1), ("ge", (-1, -1), -2), ("mod", 2, (-1, -1), -1)))
         self.assertIs(is_unsolved_paper(below, ("bar", (1, 1, 0))), True)
         self.assertIs(is_unsolved_paper(below, ("bar", (-1, 1, 0))), False)
