@@ -9,7 +9,7 @@ from wholesay.squares import added
 from wholesay.weighing import Table, bar_weights, bounded_cases, most_of
 
 MANY_PLACES = 6
-FEW_UNKNOWNS = 6
+FEW_UNKNOWNS = 5
 
 
 def whole_rows(count, rows):
@@ -40,13 +40,17 @@ def live_places(places, units, found):
 
 
 def work_at(place, units, found):
-    """How hard a place seems: of those with the fewest rows above 0, few sums of them stay to be looked at."""
+    """How hard a place seems: where few rows are above 0, and none by much, few sums have to be looked at.
+
+    The order of the places changes the work by far, but never what is found; this measure was the best of some tried.
+    """
     step = 0
     for row in units:
         step = gcd(step, row[place])
     if step != 0:
         return len([row for row in found if row[place] % step != 0])
-    return len([row for row in found if row[place] > 0])
+    above = [row[place] for row in found if row[place] > 0]
+    return len(above) * max(above, default=0)
 
 
 def tops_of(count, rows):
