@@ -225,8 +225,8 @@ class Work(unittest.TestCase):
                 rows |= {plus(a, b) for a in rows for b in slow_rows(one, 5) if max(plus(a, b)) <= 5}
             self.assertEqual(slow_rows(star(one), 5), rows)
         self.assertEqual(len(star((1, tuple(((1 << at,), ()) for at in range(8))))[1]), 256)
-        refused(self, (TooGreat, 8), star, many_lines(9))
-        refused(self, (TooGreat, 8), star, (1, tuple(((BILLION,), ((at,),)) for at in range(1, 10))))
+        refused(self, (TooGreat, 400), star, many_lines(9))
+        refused(self, (TooGreat, 400), star, (1, tuple(((BILLION,), ((at,),)) for at in range(1, 10))))
         half = BILLION // 2
         self.assertEqual(len(star((1, (((half,), ()), ((half,), ((1,),)))))[1]), 4)
         refused(self, (TooGreat, BILLION), star, (1, (((half,), ()), ((half + 1,), ()))))

@@ -66,7 +66,8 @@ def star(value):
     """The set of all sums of any number of rows of the set."""
     many, lines = need_set(value)
     if len(lines) > MOST_STARRED:
-        raise TooGreat(MOST_STARRED)
+        # More lines would make more choices than a set may have lines.
+        raise TooGreat(MOST_LINES)
     zeros = tuple([0 for _ in range(many)])
     made = [(zeros, ())]
     for choice in choices_among(len(lines)):
