@@ -24,8 +24,29 @@ METHODS = set(
 BARRED = set(
     "type typing enum Enum Flag Generic Protocol ABC namedtuple register mro elements open input law eval exec "
     "globals locals vars dir id help exit quit compile super gc os sys".split())
-NODES = (ast.Global, ast.Nonlocal, ast.AsyncFunctionDef, ast.Await, ast.TryStar, ast.Yield, ast.YieldFrom,
-         ast.JoinedStr, ast.NamedExpr, ast.AnnAssign, ast.With, ast.Match, ast.Div, ast.Set, ast.GeneratorExp)
+# Words that stand in no file but in comments and docstrings.
+WORDS = set(
+    "typing typing_extensions enum Enum IntEnum StrEnum Flag IntFlag Generic Protocol ABC ABCMeta namedtuple NamedTuple "
+    "TypedDict TYPE_CHECKING abstractmethod type".split())
+# The package does with these; LANGUAGE.md would let some more.
+NODES = (
+    ast.Module, ast.FunctionDef, ast.ClassDef, ast.arguments, ast.arg, ast.ImportFrom, ast.alias, ast.Expr, ast.Assign,
+    ast.AugAssign, ast.For, ast.While, ast.If, ast.Return, ast.Raise, ast.Try, ast.ExceptHandler, ast.Pass, ast.Break,
+    ast.Continue, ast.Delete, ast.BoolOp, ast.BinOp, ast.UnaryOp, ast.Lambda, ast.IfExp, ast.Dict, ast.ListComp,
+    ast.DictComp, ast.SetComp, ast.comprehension, ast.Compare, ast.Call, ast.keyword, ast.Constant, ast.Attribute,
+    ast.Subscript, ast.Slice, ast.Starred, ast.Name, ast.List, ast.Tuple, ast.expr_context, ast.boolop, ast.Add, ast.Sub, ast.Mult,
+    ast.Mod, ast.Pow, ast.LShift, ast.RShift, ast.BitOr, ast.BitXor, ast.BitAnd, ast.FloorDiv, ast.unaryop, ast.cmpop)
+LAZY = ("zip", "enumerate", "reversed", "range", "map")
+VIEWS = ("items", "keys", "values")
+# Of `list`, `zip` and the others the first argument goes over it at once.
+EATERS = ("list", "tuple", "dict", "sorted", "sum", "any", "all", "enumerate", "zip")
+KEYWORDS = {"sorted": ("key", "reverse"), "min": ("key", "default"), "max": ("key", "default"), "sum": ("start",),
+            "enumerate": ("start",), "zip": ("strict",)}
+CHANGES = ("append", "clear", "extend", "insert", "pop", "remove", "reverse", "setdefault", "update", "sort", "add",
+           "discard")
+HEAPS = ("heappush", "heappop", "heapify", "heapreplace", "heappushpop")
+DUNDERS = ("__init__", "__eq__", "__len__", "__iter__", "__str__", "__repr__")
+FREE_ATTRIBUTES = ("count", "index", "title", "find", "get", "join", "lower", "upper", "split", "strip", "copy", "add")
 
 
 def files():
@@ -130,7 +151,7 @@ class Language(unittest.TestCase):
             known = defined_in(tree) | {alias.name for node in tree.body if isinstance(node, ast.ImportFrom)
                                         for alias in node.names}
             for node in ast.walk(tree):
-                self.assertNotIsInstance(node, NODES, path)
+                self.assertIsInstance(node, NODES, path)
                 if isinstance(node, ast.Name) and node.id in dir(builtins) and node.id not in known:
                     self.assertIn(node.id, BUILTINS, path)
                 if isinstance(node, ast.Call) and isinstance(node.func, ast.Attribute):
@@ -152,6 +173,200 @@ class Language(unittest.TestCase):
             for node in tree.body:
                 if isinstance(node, ast.ImportFrom):
                     self.assertTrue({alias.name for alias in node.names} <= used, (path, node.module))
+
+    def test_words_in_strings(self):
+        for path, tree in trees():
+            texts = {id(node.body[0].value) for node in ast.walk(tree)
+                     if isinstance(node, (ast.Module, ast.FunctionDef, ast.ClassDef)) and node.body
+                     and isinstance(node.body[0], ast.Expr)}
+            for node in ast.walk(tree):
+                if isinstance(node, ast.Constant) and isinstance(node.value, str) and id(node) not in texts:
+                    self.assertFalse(set(re.findall("[A-Za-z_0-9]+", node.value)) & WORDS, (path, node.value))
+                    self.assertNotIn("__", node.value, path)
+
+    def test_raised_and_caught(self):
+        own = errors_of()
+        for path, tree in trees():
+            for node in ast.walk(tree):
+                if isinstance(node, ast.Raise):
+                    self.assertIn(node.exc.func.id, own, (path, node.lineno))
+                if isinstance(node, ast.ExceptHandler):
+                    self.assertIn(node.type.id, own, (path, node.lineno))
+
+    def test_keywords_and_defaults(self):
+        for path, tree in trees():
+            for node in ast.walk(tree):
+                if isinstance(node, ast.Call):
+                    names = {word.arg for word in node.keywords}
+                    if isinstance(node.func, ast.Name) and node.func.id in BUILTINS:
+                        self.assertLessEqual(names, set(KEYWORDS.get(node.func.id, ())), (path, node.lineno))
+                        if "default" in names:
+                            self.assertEqual(len(node.args), 1, (path, node.lineno))
+                    if isinstance(node.func, ast.Attribute) and node.func.attr in METHODS:
+                        self.assertFalse(names, (path, node.lineno))
+                if isinstance(node, ast.arguments):
+                    for value in node.defaults + node.kw_defaults:
+                        self.assertTrue(isinstance(value, (ast.Constant, ast.Tuple)), (path, ast.dump(node)))
+
+    def test_classes(self):
+        for path, tree in trees():
+            for node in ast.walk(tree):
+                if isinstance(node, ast.ClassDef):
+                    names = [item.name for item in node.body if isinstance(item, ast.FunctionDef)]
+                    self.assertEqual(len(names), len(set(names)), (path, node.name))
+                    self.assertTrue(all(name in DUNDERS or not name.startswith("__") for name in names), path)
+                    self.assertFalse(set(names) & set(attributes_of(node)), (path, node.name))
+
+    def test_attributes(self):
+        barred = {name for kind in (int, str, bytes, list, dict, set) for name in dir(kind)} - set(FREE_ATTRIBUTES)
+        known, methods = set(), set()
+        for _, tree in trees():
+            for node in ast.walk(tree):
+                if isinstance(node, ast.ClassDef):
+                    known |= set(attributes_of(node))
+                    methods |= {item.name for item in node.body if isinstance(item, ast.FunctionDef)}
+        self.assertFalse(known & barred)
+        for path, tree in trees():
+            called = {id(node.func) for node in ast.walk(tree) if isinstance(node, ast.Call)}
+            for node in ast.walk(tree):
+                if isinstance(node, ast.Attribute):
+                    fits = known if id(node) not in called else known | methods | METHODS
+                    self.assertIn(node.attr, fits, (path, node.lineno))
+
+
+class Iterated(unittest.TestCase):
+    """L23 and L24: what is walked on the spot, what a loop may not change, where a set may stand."""
+
+    def test_walked_on_the_spot(self):
+        for path, tree in trees():
+            for node, above in with_parents(tree):
+                if is_lazy(node):
+                    self.assertTrue(is_walked(node, above), (path, node.lineno))
+
+    def test_the_test_itself(self):
+        for text, right in (("for at in range(2): pass", True), ("rows = list(reversed(xs))", True),
+                            ("rows = [x for x in zip(xs, ys)]", True), ("found = max(d.values(), default=0)", True),
+                            ("found = dict(zip(xs, ys))", True), ("for at, x in enumerate(zip(xs, ys)): pass", True),
+                            ("for at in reversed(range(3)): pass", True), ("found = k in d.keys()", True),
+                            ("found = len(range(3))", True), ("text = ' '.join(map(str, xs))", True),
+                            ("ahead.extend(reversed(xs))", False), ("rows = reversed(xs)", False),
+                            ("found = set(d.keys())", False), ("found = max(range(3), range(4))", False),
+                            ("found = len(zip(xs, ys))", False), ("found = f(range(3))", False),
+                            ("for x in reversed(d.items()): pass", False), ("found = zip(xs, ys) == zs", False),
+                            ("for x in xs + reversed(xs): pass", False), ("first, *rest = zip(xs, ys)", False),
+                            ("text = sep.join(map(str, xs))", False), ("found = list(d, d.keys())", False)):
+            found = [is_walked(node, above) for node, above in with_parents(ast.parse(text)) if is_lazy(node)]
+            self.assertIs(bool(found) and all(found), right, text)
+
+    def test_loops_change_nothing_that_they_walk(self):
+        for path, tree in trees():
+            for node in ast.walk(tree):
+                self.assertFalse(changed_in_walk(node), (path, getattr(node, "lineno", 0)))
+
+    def test_that_test_itself(self):
+        for text, right in (("for x in xs: ys.append(x)", True), ("for x in xs: xs.append(x)", False),
+                            ("for at, x in enumerate(xs): xs[at] = 1", False), ("for x in list(xs): xs.pop()", True),
+                            ("for x in zip(xs, ys): del ys[0]", False), ("for k, x in d.items(): d[k] = x", False),
+                            ("for x in a.rows: b.rows.append(x)", False), ("for x in xs: heappush(xs, x)", False),
+                            ("for x in xs: xs += [x]", False), ("found = [xs.pop() for x in xs]", False),
+                            ("found = [xs.pop() for x in ys]", True), ("for x in xs[1:]: xs.append(x)", True)):
+            found = any(changed_in_walk(node) for node in ast.walk(ast.parse(text)))
+            self.assertIs(not found, right, text)
+
+    def test_sets(self):
+        for path, tree in trees():
+            for node, above in with_parents(tree):
+                if isinstance(node, (ast.Set, ast.SetComp)) or is_call(node, ("set", "frozenset")):
+                    self.assertTrue(is_call(above, ("sorted", "len")) and not above.keywords
+                                    or isinstance(above, ast.Compare) and node in above.comparators
+                                    and isinstance(above.ops[-1], (ast.In, ast.NotIn)), (path, node.lineno))
+
+
+def errors_of():
+    return defined_in(ast.parse((PACKAGE / "errors.py").read_text()))
+
+
+def attributes_of(node):
+    """The attributes that a class gives to its own objects."""
+    return [item.attr for item in ast.walk(node) if isinstance(item, ast.Attribute) and isinstance(item.ctx, ast.Store)]
+
+
+def with_parents(tree):
+    found = [(tree, None)]
+    for node, _ in found:
+        found += [(child, node) for child in ast.iter_child_nodes(node)]
+    return found
+
+
+def is_call(node, names):
+    return isinstance(node, ast.Call) and isinstance(node.func, ast.Name) and node.func.id in names
+
+
+def is_view(node):
+    return isinstance(node, ast.Call) and isinstance(node.func, ast.Attribute) and node.func.attr in VIEWS
+
+
+def is_lazy(node):
+    return is_call(node, LAZY) or is_view(node)
+
+
+def is_walked(node, above):
+    """Whether what is walked once stands where it is walked on the spot."""
+    if isinstance(above, (ast.For, ast.comprehension)):
+        return above.iter is node
+    if is_call(above, EATERS):
+        return above.args[0] is node
+    if is_call(above, ("min", "max")):
+        return above.args == [node]
+    if is_call(above, ("len",)):
+        return is_call(node, ("range",)) or is_view(node) and node.func.attr == "items"
+    if is_call(above, ("reversed",)):
+        return is_call(node, ("range",))
+    if isinstance(above, ast.Compare) and isinstance(above.ops[-1], (ast.In, ast.NotIn)):
+        return above.comparators[-1] is node and (is_call(node, ("range",)) or is_view(node))
+    return (isinstance(above, ast.Call) and isinstance(above.func, ast.Attribute) and above.func.attr == "join"
+            and isinstance(above.func.value, ast.Constant))
+
+
+def walked_in(value):
+    """The texts of the lists and dicts that a loop goes over."""
+    if is_call(value, LAZY):
+        return {text for each in value.args for text in walked_in(each)}
+    if is_view(value):
+        return walked_in(value.func.value)
+    if isinstance(value, (ast.BoolOp, ast.IfExp)):
+        return {text for each in ast.iter_child_nodes(value) for text in walked_in(each)}
+    if isinstance(value, ast.Attribute):
+        return {"." + value.attr}
+    return {ast.unparse(value)} if isinstance(value, (ast.Name, ast.Subscript)) and not (
+        isinstance(value, ast.Subscript) and isinstance(value.slice, ast.Slice)) else set()
+
+
+def changed_by(node):
+    """The text of what a node changes, "" of nothing."""
+    what = None
+    if isinstance(node, ast.Call) and isinstance(node.func, ast.Attribute) and node.func.attr in CHANGES:
+        what = node.func.value
+    elif is_call(node, HEAPS):
+        what = node.args[0]
+    elif isinstance(node, ast.Subscript) and isinstance(node.ctx, (ast.Store, ast.Del)):
+        what = node.value
+    elif isinstance(node, ast.AugAssign):
+        what = node.target
+    if isinstance(what, ast.Attribute):
+        return "." + what.attr
+    return "" if what is None else ast.unparse(what)
+
+
+def changed_in_walk(node):
+    """Whether a loop or comprehension changes what it goes over."""
+    if isinstance(node, ast.For):
+        over, inside = walked_in(node.iter), node.body
+    elif isinstance(node, (ast.ListComp, ast.SetComp, ast.DictComp)):
+        over, inside = {text for each in node.generators for text in walked_in(each.iter)}, [node]
+    else:
+        return False
+    return any(changed_by(each) in over for part in inside for each in ast.walk(part))
 
 
 def defined_in(tree):

@@ -54,7 +54,7 @@ def word_by(rules, way):
             word.append(ahead.pop()[1])
         if not ahead or not is_between(number, 0, len(rules) - 1) or rules[number][0] != ahead.pop()[1]:
             return None
-        ahead.extend(reversed(rules[number][1]))
+        ahead.extend(list(reversed(rules[number][1])))
     if any([kind == "variable" for kind, _ in ahead]):
         return None
     return word + [which for _, which in reversed(ahead)]
