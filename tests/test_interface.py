@@ -64,6 +64,18 @@ INTERFACE = {
         "need_grammar(value)", "word_of(grammar, way)", "uses_in(grammar, way)", "is_way(grammar, way)",
         "is_uses(grammar, uses)", "letters_of(grammar, uses)", "way_with(grammar, uses)"],
     "trees": ["rounds(grammar, way)", "flattened(grammar, way)"],
+    "wordcounts": ["counts_of(grammar)", "uses_for(grammar, row)", "counts_apart(one, other)"],
+    "boards": [
+        "need_board(value)", "done(board, marking, deed)", "walked(board, marking, deeds)",
+        "can_count(board, marking, counts)", "order(board, marking, counts)", "supports(board, marking)"],
+    "reach": ["reached(board, marking)", "back(board, marking)", "pairs(board)", "unbounded(board, marking)"],
+    "ways": [
+        "fewest(board, first, last)", "way(board, first, last)", "no_way_paper(board, first, last)",
+        "is_no_way_paper(board, first, last, paper)"],
+    "loops": [
+        "need_program(many, value)", "round_of(many, program)", "rounds_formula(many, program)",
+        "before(many, program, formula)", "unending(many, program)", "surely(many, program, formula)",
+        "relation(many, program)", "after(many, program, formula)"],
 }
 
 

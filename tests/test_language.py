@@ -273,6 +273,20 @@ class Iterated(unittest.TestCase):
             found = any(changed_in_walk(node) for node in ast.walk(ast.parse(text)))
             self.assertIs(not found, right, text)
 
+    def test_names_in_comprehensions(self):
+        for path, tree in trees():
+            for node, outer in within_comprehensions(tree):
+                names = {name.id for part in node.generators for name in ast.walk(part.target)
+                         if isinstance(name, ast.Name)}
+                self.assertFalse(names & outer - {"_"}, (path, node.lineno))
+
+    def test_stars(self):
+        for path, tree in trees():
+            for node, above in with_parents(tree):
+                if isinstance(node, ast.Starred):
+                    self.assertIsInstance(node.value, (ast.Name, ast.Attribute), (path, node.lineno))
+                    self.assertTrue(is_call(above, ("zip", "max", "min")), (path, node.lineno))
+
     def test_sets(self):
         for path, tree in trees():
             for node, above in with_parents(tree):
@@ -280,6 +294,32 @@ class Iterated(unittest.TestCase):
                     self.assertTrue(is_call(above, ("sorted", "len")) and not above.keywords
                                     or isinstance(above, ast.Compare) and node in above.comparators
                                     and isinstance(above.ops[-1], (ast.In, ast.NotIn)), (path, node.lineno))
+
+
+COMPREHENSIONS = (ast.ListComp, ast.SetComp, ast.DictComp)
+
+
+def within_comprehensions(tree):
+    """The pairs of a comprehension within another one, or in a lambda or nested function, and the names around it."""
+    found = []
+    for function in functions(tree):
+        stored = bound_in_rows(function)
+        for node in ast.walk(function):
+            if isinstance(node, COMPREHENSIONS + (ast.Lambda,)):
+                own = {name.id for part in getattr(node, "generators", []) for name in ast.walk(part.target)
+                       if isinstance(name, ast.Name)}
+                found += [(each, stored | own) for each in ast.walk(node)
+                          if each is not node and isinstance(each, COMPREHENSIONS)]
+    return found
+
+
+def bound_in_rows(function):
+    """The parameters and the names that a function assigns, those of comprehensions left out."""
+    inside = {id(name) for node in ast.walk(function) if isinstance(node, COMPREHENSIONS)
+              for part in node.generators for name in ast.walk(part.target)}
+    names = {arg.arg for arg in function.args.args}
+    return names | {node.id for node in ast.walk(function)
+                    if isinstance(node, ast.Name) and isinstance(node.ctx, ast.Store) and id(node) not in inside}
 
 
 def errors_of():

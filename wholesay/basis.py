@@ -27,7 +27,7 @@ class Pair:
         self.many = self.ahead + len(parts[1][1])
         if self.many > MOST_STATES_COMPARED:
             raise TooGreat(MOST_STATES_COMPARED)
-        behind = [[[self.ahead + target for target in row] for row in targets_of(parts[1][1], digit)]
+        behind = [[[self.ahead + target for target in targets] for targets in targets_of(parts[1][1], digit)]
                   for digit in range(2)]
         self.tables = [targets_of(parts[0][1], digit) + behind[digit] for digit in range(2)]
         # Weights by which a row of numbers makes the count of the first one less that of the second one.

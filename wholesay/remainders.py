@@ -33,7 +33,7 @@ def rest_weights(count, rows):
 
 def spans_of(count, rows, numbers):
     """What each unknown, and the modulus of each mod, adds to the values of the rows with these numbers."""
-    found = [tuple([rows[number][-2][unknown] for number in numbers]) for unknown in range(count)]
+    found = [tuple([rows[each][-2][unknown] for each in numbers]) for unknown in range(count)]
     for number in numbers:
         if rows[number][0] == "mod":
             found.append(tuple([rows[number][1] if each == number else 0 for each in numbers]))

@@ -4,7 +4,8 @@ from math import gcd
 
 from wholesay.conditions import level_rows
 from wholesay.lattices import sifted
-from wholesay.lifting import lifted
+from wholesay.lifting import MOST_FOUND, lifted
+from wholesay.merging import alike_unknowns, merged_rows, need_few_shares, shared_out
 from wholesay.squares import added
 from wholesay.weighing import Table, bar_weights, bounded_cases, most_of
 
@@ -17,8 +18,8 @@ def whole_rows(count, rows):
 
     ONE tells how often the constants are added: 1 in a solution, 0 in one of the homogeneous equations.
     """
-    ones = [tuple([1 if at == place else 0 for at in range(count + 1)]) for place in range(count + 1)]
-    found = [one + tuple([one[0] * row[-1] + unit_value(row[-2], one[1:]) for row in rows]) for one in ones]
+    ones = [tuple([1 if spot == unit else 0 for spot in range(count + 1)]) for unit in range(count + 1)]
+    found = [one + tuple([one[0] * each[-1] + unit_value(each[-2], one[1:]) for each in rows]) for one in ones]
     for at, row in enumerate(rows):
         if row[0] != "ge":
             place = count + 1 + at
@@ -88,6 +89,14 @@ def least_rows_of_lattice(rows, places, tops):
 def solved(equations):
     """The pair of the least and the ground solutions, two ascending tuples; TooGreat(400)."""
     count, rows = equations
+    groups = alike_unknowns(count, rows)
+    least, ground = solved_by_faces(len(groups), merged_rows(rows, groups))
+    need_few_shares(least + ground, groups, MOST_FOUND)
+    return (shared_out(count, least, groups), shared_out(count, ground, groups))
+
+
+def solved_by_faces(count, rows):
+    """As solved, for unknowns that are not alike."""
     # With the last unknowns at 0 there are no other least and ground solutions: too many of them are soon found.
     for fewer in range(FEW_UNKNOWNS, count):
         solutions_of(fewer, tuple([row[:-2] + (row[-2][:fewer], row[-1]) for row in rows]))

@@ -42,9 +42,9 @@ def lasts_of(steps, ends):
     the circle can be gone round as often as one likes ahead of them.
     """
     even = targets_of(steps, 0)
-    here = [len([target for target in row[1:] if ends[target]]) for row in even]
+    here = [len([to for to in row[1:] if ends[to]]) for row in even]
     more = with_end_ahead(even, [count > 0 for count in here])
-    ahead = [[target for target in row if more[target]] if more[state] else [] for state, row in enumerate(even)]
+    ahead = [[to for to in row if more[to]] if more[state] else [] for state, row in enumerate(even)]
     found = [None for _ in steps]
     left = [len(row) for row in ahead]
     sources = [[] for _ in steps]
