@@ -76,6 +76,32 @@ INTERFACE = {
         "need_program(many, value)", "round_of(many, program)", "rounds_formula(many, program)",
         "before(many, program, formula)", "unending(many, program)", "surely(many, program, formula)",
         "relation(many, program)", "after(many, program, formula)"],
+    "runs": [
+        "jump(many, program, row)", "run(many, program, row, choices=())", "runs(many, program, row)",
+        "ends_always(many, program)", "unending_row(many, program)", "holds_always(many, first, program, last)",
+        "breach(many, first, program, last)", "is_breach(many, first, program, last, paper)",
+        "programs_alike(many, one, other)", "programs_apart(many, one, other)"],
+    "best": [
+        "least_rows(value)", "lowest_row(value)", "spans(value)", "greatest(value, weights)",
+        "best_rows(value, weights)", "least_rows_of(many, formula)", "greatest_of(many, formula, weights)",
+        "is_greatest(many, formula, weights, answer)", "is_least_rows(many, formula, rows)"],
+    "choices": [
+        "least_choice(many, formula)", "greatest_choice(many, formula)", "pieces(many, formula)", "straight(formula)",
+        "flaw_of(many, formula, graph)"],
+    "house": ["House(many, formula)"],
+    "texts": [
+        "formula_text(formula)", "read_formula(text)", "set_text(value)", "read_set(many, text)",
+        "machine_text(machine)", "read_machine(many, text)", "row_text(row)", "read_row(many, text)"],
+    "sheet": ["Sheet(text)"],
+}
+METHODS = {
+    "house.House": [
+        "formula(self)", "machine(self)", "do(self, deed)", "follow(self, deeds)", "trial(self, deeds)", "undo(self)",
+        "has(self, row)", "first(self)", "is_none(self)", "is_every(self)", "within(self, other)",
+        "apart(self, other)", "log(self)", "copy(self)", "__len__(self)", "__iter__(self)", "__eq__(self, other)"],
+    "sheet.Sheet": [
+        "all_true(self)", "named(self, name)", "__len__(self)", "__iter__(self)", "__eq__(self, other)",
+        "__str__(self)"],
 }
 
 
@@ -87,6 +113,19 @@ class Interface(unittest.TestCase):
                 call = getattr(found, line.split("(")[0])
                 self.assertEqual(call.__name__ + str(inspect.signature(call)), line)
                 self.assertEqual(call.__module__, "wholesay." + module)
+
+    def test_each_method_in_its_class(self):
+        for place, lines in METHODS.items():
+            module, name = place.split(".")
+            kind = getattr(import_module("wholesay." + module), name)
+            for line in lines:
+                call = vars(kind)[line.split("(")[0]]
+                self.assertEqual(call.__name__ + str(inspect.signature(call)), line)
+
+    def test_attributes_are_set_on_each_object(self):
+        house = import_module("wholesay.house").House(1, ("and", ()))
+        sheet = import_module("wholesay.sheet").Sheet("width 1")
+        self.assertEqual((vars(house)["many"], vars(sheet)["many"], vars(sheet)["rows"]), (1, 1, ()))
 
 
 if __name__ == "__main__":

@@ -206,7 +206,7 @@ class Language(unittest.TestCase):
                         self.assertFalse(names, (path, node.lineno))
                 if isinstance(node, ast.arguments):
                     for value in node.defaults + node.kw_defaults:
-                        self.assertTrue(isinstance(value, (ast.Constant, ast.Tuple)), (path, ast.dump(node)))
+                        self.assertTrue(isinstance(value, (ast.Constant, ast.Tuple, ast.Name)), (path, ast.dump(node)))
 
     def test_classes(self):
         for path, tree in trees():

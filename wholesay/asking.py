@@ -56,10 +56,10 @@ def first_row(machine):
     return row
 
 
-def first_unfit(first, second, fits):
+def first_unfit(first, second, fits, most=MOST_PAIRS):
     """The first row whose ends in both machines do not fit, None if there is none; and the pairs come to."""
     columns = same_columns(first[0])
-    pairs, steps = pairs_of(first[1:], second[1:], columns, MOST_PAIRS)
+    pairs, steps = pairs_of(first[1:], second[1:], columns, most)
     row = first_taken(first[0], steps, [not fits(first[2][one], second[2][other]) for one, other in pairs])
     return row, pairs
 

@@ -22,7 +22,7 @@ class Pair:
         need_machine(second)
         parts = [finite_part(first), finite_part(second)]
         row, _ = first_unfit(endless(first), endless(second), fits_alike)
-        self.apart = None if row is None else row[0]
+        self.lone = None if row is None else row[0]
         self.ahead = len(parts[0][1])
         self.many = self.ahead + len(parts[1][1])
         if self.many > MOST_STATES_COMPARED:
@@ -74,14 +74,14 @@ class Pair:
 
     def least_apart(self):
         """The least parameter at which the counts are unlike, None if there is none."""
-        found = [number for number in (self.apart, self.first_gap()) if number is not None]
+        found = [number for number in (self.lone, self.first_gap()) if number is not None]
         return min(found, default=None)
 
 
 def counts_alike(first, second):
     """Whether both counts are equal for all parameters."""
     pair = Pair(first, second)
-    return pair.apart is None and pair.is_alike(pair.words())
+    return pair.lone is None and pair.is_alike(pair.words())
 
 
 def first_count_apart(first, second):
@@ -96,7 +96,7 @@ def count_paper(first, second):
     """The paper of the rows of digit words, or Unlike with the least parameter at which the counts are unlike."""
     pair = Pair(first, second)
     words = pair.words()
-    if pair.apart is not None or not pair.is_alike(words):
+    if pair.lone is not None or not pair.is_alike(words):
         raise Unlike(pair.least_apart())
     return tuple([tuple(row) for row in words])
 
@@ -104,7 +104,7 @@ def count_paper(first, second):
 def is_count_paper(first, second, paper):
     """Whether a value of any kind is a paper that all counts are alike."""
     pair = Pair(first, second)
-    if not isinstance(paper, tuple) or len(paper) > MOST_ITEMS or pair.apart is not None:
+    if not isinstance(paper, tuple) or len(paper) > MOST_ITEMS or pair.lone is not None:
         return False
     if not all([is_weights(row, pair.many) and is_in_bounds(row) for row in paper]):
         return False
