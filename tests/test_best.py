@@ -235,7 +235,7 @@ class Judged(unittest.TestCase):
             self.assertIs(is_greatest(2, most, (1, 1), answer), True)
         for answer in (("row", 99, (40, 59)), ("row", 100, (40, 61)), ("row", 101, (40, 61)), ("row", 100, (100,)),
                        ("row", 100, [40, 60]), ("row", 100.0, (40, 60)), ("row", "100", (40, 60)), ("row", 100),
-                       ("row", 100, (40, 60), ()), ["row", 100, (40, 60)], ("rows", 100, (40, 60)), ("none",),
+                       ("row", 100, (40, 60), ()), ["row", 100, (40, 60)], ("rows", 100, (40, 60)), ("none",), ("some",),
                        ("endless", (0, 0), (1, 0)), ("endless", (0, 0), (0, 0)), ("row", Touchy(), (40, 60)),
                        ("row", 100, Touchy()), (Touchy(), 100, (40, 60)), (Touchy(),), Touchy(), ("endless", Touchy(), (1, 0)),
                        ("endless", (0, 0), Touchy()), ("row", 100, (Touchy(), 60)), ("row", True, (1, 0)), ()):
@@ -272,6 +272,7 @@ class Judged(unittest.TestCase):
             self.assertIs(is_greatest(1, evens, (1,), ("endless", row, step)), truth)
             self.assertIs(is_greatest(1, evens, (-1,), ("endless", row, step)), False)
         self.assertIs(is_greatest(1, evens, (1,), ("endless", (4,), (BILLION + 2,))), False)
+        self.assertIs(is_greatest(1, evens, (1,), ("ending", (4,), (2,))), False)
         # The numbers of all places are put in at once, bound names in the way or not.
         line = ("and", (eq(-3, (0, 1), (1, -2)), ("some", 0, eq(-1, (0, -3), (1, 1)))))
         self.assertIs(is_greatest(2, line, (0, 1), ("endless", (5, 1), (6, 3))), True)

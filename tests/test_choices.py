@@ -188,6 +188,32 @@ class Straight(unittest.TestCase):
                                  for less in range(1, period)))
         self.assertGreater(min(late, longer), 20)
 
+    def test_crossings(self):
+        rand = make_rand(7502)
+        late = 0
+        for _ in range(400):
+            parts = []
+            for _ in range(rand.randint(1, 3)):
+                kind = rand.choice((ge, ge, ge, eq))
+                low = kind(rand.randint(-12, 12), (0, rand.choice((-5, -3, -2, -1, 1))), (1, rand.choice((1, 2, 3, 5))))
+                rest = mod(rand.randint(2, 4), rand.randint(0, 3), (0, rand.randint(1, 3)), (1, rand.choice((-2, -1, 1, 1))))
+                far = rand.choice((ge(rand.randint(-12, 0), (0, 1)), ge(rand.randint(0, 12), (0, -1)), ALWAYS))
+                parts.append(("and", (low, rest, far)))
+            formula = ("or", tuple(parts))
+            try:
+                start, period, firsts, lines = straight(formula)
+            except TooGreat:
+                continue
+            late += start > 5
+            values = [first_true([tried(formula, by_names((x, y))) for y in range(5 * x + 40)]) for x in range(50)]
+            self.assertEqual(firsts[:50], tuple(values[:start]))
+            for x in range(50):
+                if x >= start:
+                    self.assertTrue(self.is_told(lines, x, values[x]), (formula, x))
+            if 0 < start <= 50:
+                self.assertFalse(self.is_told(lines, start - 1, values[start - 1]), formula)
+        self.assertGreater(late, 50)
+
     def is_told(self, lines, number, value):
         line = lines[number % len(lines)]
         if line is None or value is None:
@@ -223,6 +249,10 @@ class Straight(unittest.TestCase):
         refused(self, (TooGreat, 400), straight, ("or", wide + (mod(11, 0, (0, 3)),)))
         refused(self, (TooGreat, 400), straight, ("or", wide + (mod(5, 0, (0, 1), (1, 1)), mod(4, 0, (0, 1)), mod(3, 0, (0, 1)))))
         straight(("or", wide + (mod(10, 0, (0, 3), (1, 7)),)))
+        straight(("and", (mod(8, 0, (0, 1)), mod(9, 0, (0, 1)), mod(5, 0, (0, 1)))))
+        straight(("or", (eq(1, (0, 1), (1, -11)), ge(1, (0, 1), (1, -9)), mod(4, 0, (0, 1)))))
+        straight(("or", (eq(1, (0, 1), (1, -11)), ge(1, (0, 1), (1, -12)), mod(3, 0, (0, 1)))))
+        refused(self, (TooGreat, 400), straight, ("or", (eq(1, (0, 1), (1, -11)), ge(1, (0, 1), (1, -9)), mod(5, 0, (0, 1)))))
         # In this order.
         refused(self, (TooGreat, 12), straight, ("and", sixty[1] + (eq(0, (1, 1)), mod(13, 0, (0, 1)))))
         refused(self, (TooGreat, 60), straight, ("and", sixty[1] + wide))
@@ -283,6 +313,8 @@ class Flaws(unittest.TestCase):
         self.assertEqual(flaw_of(2, ALWAYS, one), ("lacks", (0,)))
         self.assertEqual(flaw_of(2, ge(-2, (0, 1)), one), ("lacks", (2,)))
         self.assertEqual(flaw_of(2, ALWAYS, ("or", (one, ("and", (eq(-7, (0, 1)), eq(-3, (1, 1))))))), ("two", (7,)))
+        self.assertEqual(flaw_of(2, ALWAYS, ("or", (eq(-3, (1, 1)), eq(-4, (1, 1))))), ("two", (0,)))
+        self.assertEqual(flaw_of(2, ALWAYS, ("or", (eq(-90, (1, 1)), eq(0, (1, 1))))), ("two", (0,)))
         self.assertEqual(flaw_of(2, eq(-3, (1, 1)), ("or", (one, ("and", (eq(-7, (0, 1)), eq(-3, (1, 1))))))),
                          ("outside", (5, 0)))
         # Somes and alls are let in both, and bound names are not in the way.

@@ -19,7 +19,7 @@ NO_DEEDS = STRANGE + (
     ("or",), ("or", 5), ("or", nots(20, ALWAYS)), ("or", Touchy()), ("some",), ("some", 2), ("some", -1), ("some", True),
     ("some", 0.0), ("some", Touchy()), ("some", 0, SUM), ("all", 2), ("all",), ("all", "0"), ("all", 0, 0), ("add", 0),
     ("add", 0, 1001), ("add", 0, -1), ("add", 2, 0), ("add", 0, True), ("add", 0, 1.0), ("add", 0, Touchy()),
-    ("add", 0, 0, 0), ("add", None, 0), ("swap", 0, 0), ("swap", 0), ("swap", 0, 2), ("swap", 2, 0), ("swap", 0, True),
+    ("add", 0, 0, 0), ("add", None, 0), ("swap", 0, 0), ("swap", 0), ("swap", 0, 2), ("swap", 2, 0), ("swap", 0, -1), ("swap", -1, 0), ("swap", 0, True),
     ("swap", False, 1), ("swap", 0, 1, 1), ("swaps", 0, 1), ("nots",), ("not", 0))
 
 

@@ -393,6 +393,11 @@ class Refused(unittest.TestCase):
             refused(self, (BadFormula, (1, 1)), call, 1, UP, ("and", (ge(0), None)))
             refused(self, (TooGreat, 20), call, 1, UP, nots(20, ge(0)))
             refused(self, (BadProgram, ()), call, 1, None, None)
+        refused(self, (BadFormula, ()), before, 1, STAY, None)
+        # So many loops are too deep, but the formula is looked at first.
+        deep = ("row", (DOWN,) * 9 + (FOREVER,))
+        refused(self, (TooGreat, 20), surely, 1, deep, ALWAYS)
+        refused(self, (BadFormula, ()), surely, 1, deep, None)
         refused(self, (BadName, 1), after, 1, UP, ge(0, (1, 1)))
         refused(self, (BadName, 2), after, 2, ("add", (0, 0)), ge(0, (1, 1), (2, 1)))
         self.assertEqual(before(1, UP, ge(0, (9, -1))), ge(0, (9, -1)))

@@ -225,6 +225,9 @@ class Claims(unittest.TestCase):
                                 ((0,), Touchy()), ((0,), (0,)), ((0,), (Touchy(),)), (None, ()), ((0,), None)):
             self.assertIs(is_breach(1, ALWAYS, DOWN, ge(-2, (0, 1)), paper), False)
         self.assertIs(is_breach(many=1, first=ALWAYS, program=DOWN, last=ge(-2, (0, 1)), paper=((0,), ())), True)
+        for row in ((0, -1), (-1, 0), (0, True), (False, 0), (0, 1.0), (0,), (0, 0, 0), (Touchy(), 0), (0, Touchy())):
+            self.assertIs(is_breach(2, ALWAYS, STAY2, NEVER, (row, ())), False)
+        self.assertIs(is_breach(2, ALWAYS, STAY2, NEVER, ((0, NUMBER ** 9), ())), True)
         self.assertIs(is_breach(1, ALWAYS, ONES, ge(-3, (0, 1)), ((1,), (0,))), True)
         for choices in ((1,), (), (0, 0), (2,), (-1,), (False,), (True,)):
             self.assertIs(is_breach(1, ALWAYS, ONES, ge(-3, (0, 1)), ((1,), choices)), False)

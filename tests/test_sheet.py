@@ -109,6 +109,10 @@ class Read(unittest.TestCase):
             if saying not in ("B alike B", "A within A", "B every"):
                 self.assertIn((saying, not truth), seen)
 
+    def test_widths(self):
+        for many in range(1, 5):
+            self.assertEqual(Sheet("width %d\nrow R is %s" % (many, "7 " * many)).named("R"), ("row", (7,) * many))
+
     def test_great_rows(self):
         sheet = Sheet("width 1\nformula A is 2 divides 0 + 1 x0\nrow R is 1" + "0" * 60 + "\nsay A has R\nrow S is 1" + "0" * 59
                       + "\nsay A has S\ndeny A first S")

@@ -53,7 +53,14 @@ class Written(unittest.TestCase):
         widest = ("and", (ALWAYS,) * 1999)
         self.assertEqual(read_formula(formula_text(widest)), widest)
         self.assertEqual(read_formula(formula_text(nots(19, ge(0)))), nots(19, ge(0)))
-        self.assertEqual(read_formula(formula_text(nots(19, NEVER))), nots(19, NEVER))
+        for deepest in (nots(19, NEVER), somes([at % 10 for at in range(19)], eq(0, (7, 1))), self.nested(19)):
+            self.assertEqual(read_formula(formula_text(deepest)), deepest)
+
+    def nested(self, levels):
+        found = mod(2, 1)
+        for _ in range(levels):
+            found = ("or", (found, found)) if found[0] == "mod" else ("or", (found,))
+        return found
 
     def test_sets(self):
         for value, text in (

@@ -147,6 +147,9 @@ class Counts(unittest.TestCase):
         refused(self, (TooGreat, 400), counts_of, grammar(2, 1))
         refused(self, (TooGreat, 12), counts_of, grammar(2, 3))
         refused(self, (TooGreat, 400), counts_of, grammar(3, 2))
+        # Too many periods at U = (0, 2), but U = (0, 1, 2) comes ahead of it, with too many solutions.
+        refused(self, (TooGreat, 400), counts_of,
+                (3, ((0, (A,)), (0, (B,)), (0, (C,)), (0, (R, R)), (2, (S, S, S)), (0, (T,) * 6), (1, (R, R)))))
 
 
 class Uses(unittest.TestCase):

@@ -3,7 +3,7 @@
 from math import gcd
 
 from wholesay.formulas import holds
-from wholesay.parts import ATOMS, walked
+from wholesay.parts import walked
 from wholesay.takeout import candidates
 from wholesay.terms import factor_in
 
@@ -90,12 +90,10 @@ def starts_of(slopes, formula):
         for other_slope, other_const, other_divisor in slopes[:at]:
             crossings[(other_divisor * slope - divisor * other_slope,
                        other_divisor * const - divisor * other_const)] = True
+    # The border of an atom with the second name is a candidate, too.
     for _, atom in walked(formula):
-        if atom[0] in ATOMS and atom[0] != "mod":
-            # At each candidate the value of the term, times the divisor, is that of another line.
-            ahead, factor = factor_in(atom[1], 0), factor_in(atom[1], 1)
-            for slope, const, divisor in slopes:
-                crossings[(factor * slope + divisor * ahead, factor * const + divisor * atom[1][0])] = True
+        if atom[0] in ("ge", "eq") and factor_in(atom[1], 1) == 0:
+            crossings[(factor_in(atom[1], 0), atom[1][0])] = True
     starts = {0: True}
     for slope, const in crossings:
         if slope != 0:

@@ -144,7 +144,6 @@ def is_endless(many, formula, weights, answer):
 
 def is_least_rows(many, formula, rows):
     """Whether a value of any kind is the ascending tuple of all least rows of a formula, judged over all rows."""
-    need_wide(many, formula)
     machine = machine_of(many, formula)
     if not isinstance(rows, tuple) or len(rows) > MOST_LEAST or not all([is_entry(row, many) for row in rows]):
         return False

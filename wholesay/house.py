@@ -76,10 +76,9 @@ class House:
     """The rows that a formula tells, behind the deeds done so far."""
 
     def __init__(self, many, formula):
-        need_wide(many, formula)
-        self.many = many
         # What was held ahead of each deed, and what is held now.
         self._held = [(formula, machine_of(many, formula))]
+        self.many = many
         self._deeds = []
 
     def formula(self):

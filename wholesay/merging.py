@@ -9,8 +9,7 @@ def alike_unknowns(count, rows):
     """The list of the lists of unknowns that have the same factors in all conditions."""
     groups = {}
     for unknown in range(count):
-        factors = tuple([row[-2][unknown] if row[0] != "mod" else int(row[-2][unknown]) % row[1] for row in rows])
-        groups.setdefault(factors, []).append(unknown)
+        groups.setdefault(tuple([row[-2][unknown] for row in rows]), []).append(unknown)
     return list(groups.values())
 
 
