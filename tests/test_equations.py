@@ -190,6 +190,57 @@ class Least(unittest.TestCase):
                          ("ge", (0, 0, 0, 0, -1, -1), -1)))
         self.assertEqual((least(equations), ground(equations)), ((), ((1, 1, 1, 1, 0, 0),)))
 
+    def test_far_constants(self):
+        # By far more rows below 0 than above would be come to one by one.
+        equations = (4, (("eq", (1, 0, 1, 0), -69), ("eq", (0, -1, 8, 1), 64)))
+        self.assertEqual(least(equations), tuple((69 - at, 64 + 8 * at, at, 0) for at in range(69, -1, -1)))
+        self.assertEqual(ground(equations), ((0, 1, 0, 1),))
+        equations = (5, (("eq", (-1, 0, 3, 9, 1), 55), ("eq", (0, 5, 1, 1, 0), -50)))
+        solutions = [(55 + 3 * c + 9 * d + e, b, c, d, e) for b in range(11) for c in range(51) for d in range(51)
+                     for e in range(2) if 5 * b + c + d == 50]
+        self.assertEqual(least(equations), tuple(sorted(row for row in solutions if row[4] == 0)))
+        self.assertEqual(ground(equations), ((1, 0, 0, 0, 1),))
+        equations = (3, (("ge", (-1, 0, 6), -700), ("ge", (1, -7, 0), 3), ("ge", (0, 1, -1), 90)))
+        for row in least(equations):
+            self.assertTrue(all(fits(each, row) for each in equations[1]))
+            for at in range(3):
+                lower = tuple(each - (k == at) for k, each in enumerate(row))
+                self.assertFalse(min(lower) >= 0 and all(fits(each, lower) for each in equations[1])
+                                 and all(worth(each, row) - worth(each, lower) >= 0 for each in equations[1]))
+        for const in (-11, -17, 5):
+            rows = (("ge", (1, 7, -3), const), ("ge", (2, -1, 5), const + 3))
+            self.assertEqual((least((3, rows)), ground((3, rows))), self.tried(rows, 18))
+
+    def tried(self, rows, top):
+        """(LEAST, GROUND) of conditions ge of three unknowns, rows with numbers up to the top tried by their values."""
+        found = []
+        for const in (True, False):
+            some = {row: row + tuple(worth(each, row, const) for each in rows) for row in box(3, top)}
+            some = {row: told for row, told in some.items() if min(told) >= 0 and (const or any(row))}
+            found.append(some)
+        level = [row for row in found[1] if max(row) <= 8]
+        steps = [row for row in level if not any(self.is_under(found[1][other], found[1][row]) for other in level if other != row)]
+        bases = [row for row in found[0] if not any(self.is_under(found[1][step], found[0][row]) for step in steps)]
+        return tuple(sorted(bases)), tuple(sorted(steps))
+
+    def is_under(self, told, other):
+        return all(a <= b for a, b in zip(told, other))
+
+    def test_unknowns_alike(self):
+        # What one unknown tells is shared out among those that stand everywhere alike.
+        for factors in ((1, 1, -2), (2, 2, -3), (1, -1, 1), (0, 0, 1), (3, 3, 3), (-1, -1, -1)):
+            for kind in ("eq", "ge"):
+                for const in (-4, 0, 3):
+                    equations = (3, ((kind, factors, const), ("mod", 3, tuple(2 * each for each in factors), const)))
+                    self.assertEqual((least(equations), ground(equations)), slow_least(equations, 7))
+        many = (12, (("ge", (1,) * 11 + (-1,), -1),))
+        self.assertEqual(len(least(many)), 11)
+        self.assertEqual(len(ground(many)), 22)
+        self.assertEqual(len(least((12, (("eq", (1,) * 11 + (0,), -3),)))), 286)
+        refused(self, (TooGreat, 400), least, (12, (("eq", (1,) * 12, -4),)))
+        self.assertEqual(len(least((6, (("eq", (1,) * 5 + (0,), -6),)))), 210)
+        self.assertEqual(len(ground((6, (("eq", (1,) * 5 + (0,), -6),)))), 1)
+
     def test_greater_factors(self):
         for one, other, const in ((100, -99, 0), (100, -99, -1000), (97, -89, 1000), (-7, 100, -13)):
             equations = (2, (("eq", (one, other), const),))

@@ -10,6 +10,7 @@ step, numbers at the new place are kept beneath its own.
 from heapq import heappop, heappush
 
 from wholesay.errors import TooGreat
+from wholesay.lone import lone_rows
 from wholesay.squares import added
 
 MOST_FOUND = 400
@@ -76,11 +77,13 @@ class Lifting:
         self.below = Side(self.guards)
         self.waiting = {}
         self.queue = []
+        self.limits = tops
         self.left = None
+        self.unit = None
+        self.filled = []
         self.counted = 0
         for row in rows:
-            if self.may_stay(self.key(row)):
-                self.offer(row, self.key(row), sum([row[each] for each in done]), 0)
+            self.offer(row, self.key(row), sum([row[each] for each in done]), 0)
 
     def packed(self, numbers, last):
         """The key of these numbers at the done places and the last one at the place."""
@@ -144,14 +147,20 @@ class Lifting:
         """Keep a row; TooGreat of too many that stay whatever comes at the places that are left."""
         number = row[self.place]
         self.side(number).rows.append((level, key, abs(number), row, mother))
-        if self.left is not None and number >= 0 and all([row[each] >= 0 for each in self.left]):
-            self.reckon()
+        if number >= 0:
+            self.reckon(row)
+        elif self.unit is not None:
+            row = added(row, self.unit, -number)
+            if is_within(row, self.done, self.limits):
+                self.filled.append(row)
+                self.reckon(row)
 
-    def reckon(self):
-        """Count a row that stays."""
-        self.counted += 1
-        if self.counted > MOST_FOUND:
-            raise TooGreat(MOST_FOUND)
+    def reckon(self, row):
+        """Count a row, from 0 on at the place, if it stays."""
+        if self.left is not None and all([row[each] >= 0 for each in self.left]):
+            self.counted += 1
+            if self.counted > MOST_FOUND:
+                raise TooGreat(MOST_FOUND)
 
     def match(self, one, other):
         """Let the sum of a row above and a row below wait, if it may stay and is no sum of others.
@@ -185,13 +194,37 @@ def lifted(rows, step, done, place, tops, left):
     Where `left` has the places that are left, and no other step is, a row with no number below 0 stays what it is to
     the end; TooGreat if these alone are more than 400.
     """
+    rows = [row for row in rows if is_within(row, done, tops)]
     if step is not None:
         rows = [added(row, step, -(row[place] // step[place])) for row in rows]
-    work = Lifting(rows, step, done, place, tops)
+        work = Lifting(rows, step, done, place, tops)
+    else:
+        step = unit_among(rows, place)
+        work = Lifting([row for row in rows if row != step], None, done, place, tops)
+        work.unit = step
     work.left = left
-    if step is not None and left is not None and all([step[each] >= 0 for each in left]):
-        work.reckon()
+    if step is not None:
+        work.reckon(step)
     while work.queue:
         work.settle(heappop(work.queue))
-    found = [told[3] for told in work.middle.rows + work.above.rows]
+    found = [told[3] for told in work.middle.rows + work.above.rows] + work.filled
     return found if step is None else found + [step]
+
+
+def is_within(row, done, tops):
+    """Whether no number of a row at the done places is above its top."""
+    return all([row[each] <= tops.get(each, row[each]) for each in done])
+
+
+def unit_among(rows, place):
+    """A row with 1 at the place that stands in no relation among the rows, None if there is none.
+
+    It fills each sum of the others that is below 0 up to 0, in one way only. So it need not be added one by one: each
+    row that is no sum of others below 0 makes, filled up, one that is no sum of others from 0 on.
+    """
+    if not any([row[place] == 1 for row in rows]):
+        return None
+    for at in lone_rows(rows):
+        if rows[at][place] == 1:
+            return rows[at]
+    return None
