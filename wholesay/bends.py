@@ -34,12 +34,12 @@ class Curve:
                 return (value, reduced(found[value]))
         return None
 
-    def value(self, number):
+    def f_at(self, number):
         """f(x), None if there is none."""
         found = self.least(number)
         return None if found is None else found[0]
 
-    def lines(self):
+    def far_lines(self):
         """The list, as long as the least period, of the lines behind all crossings, None where there is no f(x)."""
         found = [None for _ in range(self.turn)]
         for number in range(self.starts[-1], self.starts[-1] + self.turn):
@@ -53,7 +53,7 @@ class Curve:
     def fits(self, lines, number):
         """Whether the lines tell f(x)."""
         line = lines[number % len(lines)]
-        value = self.value(number)
+        value = self.f_at(number)
         if line is None or value is None:
             return line is None and value is None
         return line[0] * number + line[1] == line[2] * value
@@ -71,9 +71,9 @@ class Curve:
 
     def told(self):
         """(START, PERIOD, FIRSTS, LINES)."""
-        lines = self.lines()
+        lines = self.far_lines()
         start = self.first_fit(lines)
-        return (start, len(lines), tuple([self.value(number) for number in range(start)]), tuple(lines))
+        return (start, len(lines), tuple([self.f_at(number) for number in range(start)]), tuple(lines))
 
 
 def reduced(line):

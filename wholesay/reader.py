@@ -22,7 +22,7 @@ class FormulaReader:
 
     def begin(self, level):
         """The next word, with which a formula must begin; TooGreat if that is too deep, or one too many."""
-        word = self.words_left.ahead()
+        word = self.words_left.next_word()
         if word not in BEGINNINGS and integer_of(word, -MOST_FACTOR, MOST_FACTOR) is None:
             self.words_left.refuse()
         self.met += 1
@@ -49,7 +49,7 @@ class FormulaReader:
         """The tuple of the formulas of an and or or."""
         self.words_left.want("(")
         found = []
-        while self.words_left.ahead() != ")":
+        while self.words_left.next_word() != ")":
             if found:
                 self.words_left.want(";")
             found.append(self.read(level + 1, bound))
@@ -58,7 +58,7 @@ class FormulaReader:
 
     def read_name(self):
         """The name that the next word writes."""
-        word = self.words_left.ahead()
+        word = self.words_left.next_word()
         if word not in NAMES:
             self.words_left.refuse()
         self.words_left.pass_by()
@@ -67,12 +67,12 @@ class FormulaReader:
     def read_atom(self, bound):
         """The atom that begins with the next word."""
         number = self.words_left.want_integer(-MOST_FACTOR, MOST_FACTOR)
-        if self.words_left.ahead() == "divides" and 2 <= number <= MOST_MODULUS:
+        if self.words_left.next_word() == "divides" and 2 <= number <= MOST_MODULUS:
             self.words_left.pass_by()
             const = self.words_left.want_integer(-MOST_FACTOR, MOST_FACTOR)
             return ("mod", number, (const, self.read_pairs(bound)))
         term = (number, self.read_pairs(bound))
-        kind = "eq" if self.words_left.ahead() == "=" else "ge"
+        kind = "eq" if self.words_left.next_word() == "=" else "ge"
         self.words_left.want("=" if kind == "eq" else ">=")
         self.words_left.want("0")
         return (kind, term)
@@ -82,12 +82,12 @@ class FormulaReader:
         found = []
         last = -1
         # Behind the last name no other one is greater.
-        while last < LAST_NAME and self.words_left.ahead() in ("+", "-"):
-            sign = 1 if self.words_left.ahead() == "+" else -1
+        while last < LAST_NAME and self.words_left.next_word() in ("+", "-"):
+            sign = 1 if self.words_left.next_word() == "+" else -1
             self.words_left.pass_by()
             factor = self.words_left.want_integer(1, MOST_FACTOR)
             fits = [name for name in range(last + 1, LAST_NAME + 1) if name < self.many or name in bound]
-            if self.words_left.ahead() not in [NAMES[name] for name in fits]:
+            if self.words_left.next_word() not in [NAMES[name] for name in fits]:
                 self.words_left.refuse()
             last = self.read_name()
             found.append((last, sign * factor))
@@ -118,7 +118,7 @@ def line_from(words, many):
     """A line of a set."""
     base = entry_from(words, many)
     periods = []
-    while words.ahead() == "+":
+    while words.next_word() == "+":
         words.pass_by()
         periods.append(entry_from(words, many))
     return (base, tuple(periods))
@@ -127,11 +127,11 @@ def line_from(words, many):
 def set_from(words, many):
     """The set that the words up to the end write; it is checked behind all words."""
     lines = []
-    if words.ahead() == "none":
+    if words.next_word() == "none":
         words.pass_by()
     else:
         lines.append(line_from(words, many))
-        while words.ahead() == "or":
+        while words.next_word() == "or":
             words.pass_by()
             lines.append(line_from(words, many))
     words.want_end()
@@ -141,7 +141,7 @@ def set_from(words, many):
 def state_from(words, many):
     """The pair of the row of steps and the end of a state."""
     row = numbers_from(words, 1 << many, MOST_FACTOR)
-    end = words.ahead() == "yes"
+    end = words.next_word() == "yes"
     words.want("yes" if end else "no")
     return (row, end)
 
@@ -149,7 +149,7 @@ def state_from(words, many):
 def machine_from(words, many):
     """The machine that the words up to the end write; it is checked behind all words."""
     states = [state_from(words, many)]
-    while words.ahead() == ";":
+    while words.next_word() == ";":
         words.pass_by()
         states.append(state_from(words, many))
     words.want_end()

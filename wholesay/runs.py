@@ -66,7 +66,8 @@ class Run:
         if kind == "add":
             self.row = row_behind_add(program[1], self.row)
         elif kind == "loop":
-            rounds, self.row = rounds_from(self.many, program, self.row)
+            rounds, last = rounds_from(self.many, program, self.row)
+            self.row = last
             self.rounds.append(rounds)
         elif kind == "row":
             for part in program[1]:

@@ -21,19 +21,19 @@ class SheetReader:
     """Reads the lines of a sheet in turn.
 
     `given` tells (KIND, VALUE) of each name, in their order; `sayings` has (LINE, IS SAID, NAME, VERB, OTHER NAME),
-    the last one None where there is none; `lines` the texts of the lines.
+    the last one None where there is none; `texts` has the texts of the lines.
     """
 
     def __init__(self):
         self.many = None
         self.given = {}
         self.sayings = []
-        self.lines = []
+        self.texts = []
 
     def read(self, line, spelled):
         """Read the words of a line."""
         words = Words(spelled, line, 0)
-        kind = words.ahead()
+        kind = words.next_word()
         if self.many is None:
             words.want("width")
             self.many = words.want_integer(1, 4)
@@ -43,14 +43,14 @@ class SheetReader:
             self.read_saying(words, kind == "say")
         else:
             self.read_given(words, kind)
-        self.lines.append(" ".join(spelled))
+        self.texts.append(" ".join(spelled))
 
     def read_given(self, words, kind):
         """Read a line that gives a formula, a set or a row."""
         if kind not in ("formula", "set", "row"):
             words.refuse()
         words.pass_by()
-        name = words.ahead()
+        name = words.next_word()
         if not is_sheet_name(name) or name in self.given:
             words.refuse()
         words.pass_by()
@@ -64,7 +64,7 @@ class SheetReader:
 
     def read_named(self, words, kinds):
         """Take the next word, which must be the name of what is of one of these kinds."""
-        name = words.ahead()
+        name = words.next_word()
         if name not in self.given or self.given[name][0] not in kinds:
             words.refuse()
         words.pass_by()
@@ -73,7 +73,7 @@ class SheetReader:
     def read_saying(self, words, is_said):
         """Read a saying."""
         name = self.read_named(words, ("formula", "set"))
-        verb = words.ahead()
+        verb = words.next_word()
         if verb not in ROW_VERBS + PAIR_VERBS + LONE_VERBS:
             words.refuse()
         words.pass_by()

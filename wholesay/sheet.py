@@ -58,7 +58,7 @@ class Sheet:
         machines = machines_of(reader.many, reader.given) if reader.sayings else {}
         self.many = reader.many
         self._given = reader.given
-        self._texts = reader.lines
+        self._texts = reader.texts
         self._judged = tuple([
             (line, is_so(machines, reader.given, name, verb, other) == is_said)
             for line, is_said, name, verb, other in reader.sayings])

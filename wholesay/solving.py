@@ -9,7 +9,7 @@ from wholesay.merging import alike_unknowns, merged_rows, need_few_shares, share
 from wholesay.squares import added
 from wholesay.weighing import Table, bar_weights, bounded_cases, most_of
 
-MANY_PLACES = 6
+MANY_PLACES = 3
 FEW_UNKNOWNS = 5
 
 

@@ -31,7 +31,7 @@ class Words:
         self.line = line
         self.at = at
 
-    def ahead(self):
+    def next_word(self):
         """The next word, "" behind the last one."""
         return self.spelled[self.at] if self.at < len(self.spelled) else ""
 
@@ -45,13 +45,13 @@ class Words:
 
     def want(self, word):
         """Take the next word, which must be this one."""
-        if self.ahead() != word:
+        if self.next_word() != word:
             self.refuse()
         self.pass_by()
 
     def want_integer(self, low, high):
         """Take the next word, and tell the integer from low to high that it must write."""
-        value = integer_of(self.ahead(), low, high)
+        value = integer_of(self.next_word(), low, high)
         if value is None:
             self.refuse()
         self.pass_by()
@@ -59,5 +59,5 @@ class Words:
 
     def want_end(self):
         """There must be no more words."""
-        if self.ahead() != "":
+        if self.next_word() != "":
             self.refuse()
