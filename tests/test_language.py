@@ -10,8 +10,8 @@ PACKAGE = Path(__file__).resolve().parent.parent / "wholesay"
 LIBRARY = {
     "heapq": {"heappush", "heappop", "heapify", "heapreplace", "heappushpop"},
     "math": {"gcd", "lcm", "isqrt", "comb", "perm", "factorial"},
-    "itertools": {"product", "combinations", "permutations", "chain", "accumulate", "pairwise", "islice",
-                  "zip_longest"},
+    # No product and no combinations: there are objects that are iterated over and have __len__.
+    "itertools": {"chain", "accumulate", "pairwise", "islice", "zip_longest"},
     "collections": {"defaultdict", "deque"},
 }
 BUILTINS = set(
@@ -20,7 +20,7 @@ BUILTINS = set(
 METHODS = set(
     "append clear copy count endswith extend find get index insert isalnum isalpha isdigit islower isspace isupper "
     "items join keys ljust lower lstrip partition pop remove replace reverse rfind rjust rpartition rsplit rstrip "
-    "setdefault split splitlines startswith strip update upper values zfill bit_length add discard sort".split())
+    "setdefault split splitlines startswith strip update upper values zfill bit_length add discard".split())
 BARRED = set(
     "type typing enum Enum Flag Generic Protocol ABC namedtuple register mro elements open input law eval exec "
     "globals locals vars dir id help exit quit compile super gc os sys".split())
@@ -216,6 +216,30 @@ class Language(unittest.TestCase):
                     self.assertEqual(len(names), len(set(names)), (path, node.name))
                     self.assertTrue(all(name in DUNDERS or not name.startswith("__") for name in names), path)
                     self.assertFalse(set(names) & set(attributes_of(node)), (path, node.name))
+
+    def test_double_underscores(self):
+        """L28 and L5 Iteration, as plainly as these are written here."""
+        forms = {
+            "__len__": "return len(self.NAME)", "__iter__": "return iter(self.NAME)",
+            "__str__": "return '\\n'.join(self.NAME)", "__eq__": "return isinstance(other, CLASS) and self.NAME == other.NAME"}
+        for path, tree in trees():
+            for node in ast.walk(tree):
+                for item in node.body if isinstance(node, ast.ClassDef) else ():
+                    if isinstance(item, ast.FunctionDef) and item.name in forms:
+                        self.assertEqual(len(item.body), 1, (path, item.lineno))
+                        want = re.escape(forms[item.name]).replace("CLASS", node.name).replace("NAME", r"(\w+(?:\(\))?)")
+                        found = re.fullmatch(want, ast.unparse(item.body[0]))
+                        self.assertTrue(found, (path, item.lineno, ast.unparse(item.body[0]), want))
+                        self.assertEqual(len(set(found.groups())), 1, (path, item.lineno))
+
+    def test_methods_are_no_attributes_elsewhere(self):
+        stored, methods = set(), set()
+        for _, tree in trees():
+            for node in ast.walk(tree):
+                if isinstance(node, ast.ClassDef) and not node.bases:
+                    stored |= set(attributes_of(node))
+                    methods |= {item.name for item in node.body if isinstance(item, ast.FunctionDef)}
+        self.assertFalse(stored & methods)
 
     def test_attributes(self):
         barred = {name for kind in (int, str, bytes, list, dict, set) for name in dir(kind)} - set(FREE_ATTRIBUTES)
