@@ -333,6 +333,21 @@ class Common(unittest.TestCase):
         self.assertEqual(common((1, (((BILLION - 100,), ((100,),)),)), (1, (((BILLION,), ()),))),
                          (1, (((BILLION,), ()),)))
 
+    def test_what_is_made_is_too_much(self):
+        def rays(count, way):
+            return (2, tuple(sorted((((at, 0), ((0, 1),)) if way else ((0, at), ((1, 0),)) for at in range(count)))))
+        # Each two rays have one row, the corner of the crossing.
+        self.assertEqual(len(common(rays(20, True), rays(20, False))[1]), 400)
+        refused(self, (TooGreat, 400), common, rays(21, True), rays(20, False))
+        few, many = (1, (((0,), ((2,), (3,))),)), (1, (((0,), ((7,), (9,), (11,))),))
+        steps = {(2 * a + 3 * b,) for a, b, *_ in ground((5, (("eq", (2, 3, -7, -9, -11), 0),)))}
+        self.assertEqual([len(line[1]) for line in common(few, many)[1]], [len(steps)])
+        self.assertLessEqual(len(steps), 12)
+        more = (1, (((0,), ((17,), (19,), (23,))),))
+        steps = {(9 * a + 11 * b,) for a, b, *_ in ground((5, (("eq", (9, 11, -17, -19, -23), 0),)))}
+        self.assertGreater(len(steps), 12)
+        refused(self, (TooGreat, 12), common, (1, (((0,), ((9,), (11,))),)), more)
+
     def test_wrong(self):
         refused(self, (Unlike, (2, ())), common, (1, ()), (2, ()))
 
